@@ -1,0 +1,1 @@
+"""Lentdoors: who can come to hear whom through boxes that lend doors."""

@@ -1,0 +1,1 @@
+"""Kinds of boxes, and nets."""

@@ -1,0 +1,1 @@
+"""Boxes and nets at work."""

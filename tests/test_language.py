@@ -1,0 +1,193 @@
+"""The shape of the package: its interface, and those rules of its subset of Python that are plain to see."""
+
+import ast
+import builtins
+import pathlib
+import re
+import unittest
+
+ROOT = pathlib.Path(__file__).resolve().parent.parent
+PACKAGE = ROOT / "lentdoors"
+
+# What the interface lists for each module: functions and constants, and classes with their methods.
+INTERFACE = {
+    "lentdoors.errors": {
+        name: () for name in (
+            "DoorError", "InvalidKind", "InvalidNet", "InvalidDoor", "InvalidTalk", "InvalidChain", "InvalidSort",
+            "InvalidTable", "InvalidMap", "InvalidOperation", "InvalidCommand", "ParseError", "UnknownName",
+            "InvalidNumber", "NothingToUndo", "Unheard", "TooMany",
+        )
+    },
+    "lentdoors.base.kinds": {
+        name: None for name in (
+            "LENDINGS", "LETTINGS", "TURNINGS", "is_name", "is_kind", "is_door", "is_as_loose", "kinds",
+        )
+    },
+    "lentdoors.base.nets": {
+        "Net": (
+            "__init__", "boxes", "hosts", "tellers", "known", "areas", "area_of", "areas_of", "kind_of", "hosts_in",
+            "boxes_between", "with_kind", "with_teller", "with_known", "with_host", "with_box", "without",
+            "with_twin", "renamed", "is_within", "__contains__", "__iter__", "__len__", "__eq__", "__str__",
+        ),
+    },
+    "lentdoors.live.boxes": {
+        "LiveBox": (
+            "__init__", "lend", "lets_in", "inner", "used", "doors", "__iter__", "__len__", "__contains__",
+            "address", "kind", "__eq__", "__str__",
+        ),
+    },
+}
+
+BUILTINS = set((
+    "len range enumerate zip min max sum abs sorted reversed int str bool bytes list tuple dict set isinstance ord "
+    "repr any all divmod pow iter next super property staticmethod classmethod map NotImplemented "
+    "Exception ValueError TypeError KeyError IndexError LookupError ZeroDivisionError ArithmeticError "
+    "OverflowError RuntimeError NotImplementedError AttributeError StopIteration"
+).split())
+METHODS = set((
+    "append clear copy count endswith extend find get index insert isalnum isalpha isdigit islower isspace isupper "
+    "items join keys ljust lower lstrip partition pop remove replace reverse rfind rjust rpartition rsplit rstrip "
+    "setdefault split splitlines startswith strip update upper values zfill bit_length add discard"
+).split())
+BARRED = re.compile(
+    r"\b(typing|typing_extensions|enum|Enum|IntEnum|StrEnum|Flag|IntFlag|Generic|Protocol|ABC|ABCMeta|namedtuple"
+    r"|NamedTuple|TypedDict|TYPE_CHECKING|abstractmethod)\b|dataclass|overload|contextmanager|_wall|_WallAttr"
+)
+NODES = (
+    ast.AsyncFunctionDef, ast.AsyncFor, ast.AsyncWith, ast.Await, ast.Global, ast.Import, ast.Div, ast.MatMult,
+)
+
+
+def module_name(path):
+    parts = list(path.relative_to(ROOT).with_suffix("").parts)
+    return ".".join(parts[:-1] if parts[-1] == "__init__" else parts)
+
+
+FILES = {module_name(path): path for path in sorted(PACKAGE.rglob("*.py"))}
+TREES = {name: ast.parse(path.read_text(encoding="utf-8")) for name, path in FILES.items()}
+
+
+def bound_names(tree):
+    """The names that the file itself defines at module level, with what defines them."""
+    found = {}
+    for node in tree.body:
+        if isinstance(node, (ast.FunctionDef, ast.ClassDef)):
+            found[node.name] = node
+        if isinstance(node, ast.Assign):
+            found[node.targets[0].id] = node
+    return found
+
+
+def imports(tree):
+    return [node for node in ast.walk(tree) if isinstance(node, ast.ImportFrom)]
+
+
+def own_methods():
+    return {
+        part.name for tree in TREES.values() for node in ast.walk(tree) if isinstance(node, ast.ClassDef)
+        for part in node.body if isinstance(part, ast.FunctionDef)
+    }
+
+
+class Interface(unittest.TestCase):
+    def test_each_name_is_defined_in_its_file(self):
+        for module, names in INTERFACE.items():
+            found = bound_names(TREES[module])
+            for name, methods in names.items():
+                self.assertIn(name, found, module)
+                self.assertEqual(isinstance(found[name], ast.ClassDef), methods is not None, name)
+
+    def test_each_method_is_defined_in_its_class(self):
+        for module, names in INTERFACE.items():
+            found = bound_names(TREES[module])
+            for name, methods in names.items():
+                own = [part.name for part in getattr(found[name], "body", ()) if isinstance(part, ast.FunctionDef)]
+                self.assertEqual([method for method in methods or () if method not in own], [], name)
+
+
+class Files(unittest.TestCase):
+    def test_the_folder_holds_nothing_else(self):
+        for path in PACKAGE.rglob("*"):
+            if "__pycache__" in path.parts:
+                continue
+            if path.is_dir():
+                self.assertTrue((path / "__init__.py").is_file(), path)
+                self.assertFalse(path.with_suffix(".py").exists(), path)
+            else:
+                self.assertRegex(path.name, r"^([a-z][a-z0-9_]*|__init__|__main__)\.py$")
+
+    def test_sizes_and_characters(self):
+        for name, path in FILES.items():
+            text = path.read_text(encoding="utf-8")
+            self.assertRegex(text, r"\A[ -~\n]*\Z", name)
+            lines = text.split("\n")
+            self.assertLessEqual(len(lines), 400, name)
+            for at, line in enumerate(lines):
+                self.assertLessEqual(len(line), 120, (name, at + 1))
+            self.assertIsNone(BARRED.search(text), name)
+
+    def test_functions_have_at_most_forty_lines(self):
+        for name, tree in TREES.items():
+            for node in ast.walk(tree):
+                if isinstance(node, ast.FunctionDef):
+                    self.assertLessEqual(node.end_lineno - node.lineno + 1, 40, (name, node.name))
+
+
+class Rules(unittest.TestCase):
+    def test_statements_and_signs(self):
+        for name, tree in TREES.items():
+            for node in ast.walk(tree):
+                self.assertNotIsInstance(node, NODES, name)
+                if isinstance(node, ast.Constant):
+                    self.assertNotIsInstance(node.value, (float, complex), name)
+                if isinstance(node, (ast.FunctionDef, ast.ClassDef)):
+                    self.assertEqual([ast.unparse(one) for one in node.decorator_list if ast.unparse(one) not in (
+                        "property", "staticmethod", "classmethod")], [], node.name)
+
+    def test_imports(self):
+        for name, tree in TREES.items():
+            for node in imports(tree):
+                self.assertIn(node, tree.body, name)
+                self.assertEqual(node.level, 0, name)
+                self.assertIn(node.module, FILES, name)
+                for alias in node.names:
+                    self.assertIsNone(alias.asname, name)
+                    self.assertIn(alias.name, bound_names(TREES[node.module]), name)
+
+    def test_no_file_imports_from_itself_through_others(self):
+        reached = {name: {node.module for node in imports(tree)} for name, tree in TREES.items()}
+        for _ in FILES:
+            reached = {name: to.union(*[reached[other] for other in to]) for name, to in reached.items()}
+        for name, to in reached.items():
+            self.assertNotIn(name, to)
+
+    def test_builtins(self):
+        known = set(dir(builtins))
+        for name, tree in TREES.items():
+            for node in ast.walk(tree):
+                if isinstance(node, ast.Name) and node.id in known:
+                    self.assertIn(node.id, BUILTINS, (name, node.lineno))
+                    self.assertIsInstance(node.ctx, ast.Load, (name, node.lineno))
+                if isinstance(node, ast.arg):
+                    self.assertNotIn(node.arg, known, (name, node.lineno))
+
+    def test_methods(self):
+        allowed = METHODS | own_methods()
+        for name, tree in TREES.items():
+            for node in ast.walk(tree):
+                if isinstance(node, ast.Call) and isinstance(node.func, ast.Attribute):
+                    self.assertIn(node.func.attr, allowed, (name, node.lineno))
+
+    def test_no_variable_has_the_name_of_an_import(self):
+        for name, tree in TREES.items():
+            taken = {alias.name for node in imports(tree) for alias in node.names}
+            taken |= {node.name for node in tree.body if isinstance(node, ast.ClassDef)}
+            for node in ast.walk(tree):
+                if isinstance(node, ast.arg):
+                    self.assertNotIn(node.arg, taken, (name, node.lineno))
+                if isinstance(node, ast.Name) and isinstance(node.ctx, ast.Store):
+                    self.assertNotIn(node.id, taken, (name, node.lineno))
+
+
+if __name__ == "__main__":
+    unittest.main()
