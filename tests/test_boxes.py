@@ -6,7 +6,7 @@ import unittest
 from lentdoors.base.kinds import kinds
 from lentdoors.errors import InvalidDoor, InvalidKind, InvalidNumber
 from lentdoors.live.boxes import LiveBox
-from samples import ODD, OPEN, STRICT
+from samples import Chooser, ODD, OPEN, STRICT
 
 SOURCES = (("a", 0), ("a", 1), ("b", 0))
 TARGETS = (("x", 5), ("x", 6), ("y", 5))
@@ -16,18 +16,6 @@ LENT = ("left", 1)
 
 def box_of(lending="door", letting="door", turning="never", numbers=None):
     return LiveBox("left", (lending, letting, turning), numbers=numbers)
-
-
-class Chooser:
-    """Gives these values one after another, and keeps what it was asked."""
-
-    def __init__(self, *values):
-        self.values = list(values)
-        self.asked = []
-
-    def __call__(self, many):
-        self.asked.append(many)
-        return self.values.pop(0)
 
 
 def state(box):

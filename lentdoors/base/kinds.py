@@ -18,9 +18,14 @@ def is_name(value):
     return all([sign in LETTERS for sign in value])
 
 
+def is_integer(value):
+    """Whether the value is an integer."""
+    return isinstance(value, int) and not isinstance(value, bool)
+
+
 def is_number(value):
     """Whether the value is an integer of at least 0."""
-    return isinstance(value, int) and not isinstance(value, bool) and value >= 0
+    return is_integer(value) and value >= 0
 
 
 def is_kind(value):

@@ -11,6 +11,12 @@ def need(names, value):
         raise UnknownName(value)
 
 
+def check_net(value):
+    """Raise InvalidNet for what is no net."""
+    if not isinstance(value, Net):
+        raise InvalidNet("no net")
+
+
 def changed_net(boxes, hosts, tellers, known):
     """The net with these tellers and pairs, in any order and perhaps twice; refused if there is none."""
     in_order = tuple(sorted(set(tellers)))

@@ -35,6 +35,7 @@ class LiveBox:
         self._uses = {}
         # A tuple, so that a loop over the box does not see what is lent in it.
         self._order = ()
+        self._notes = []
 
     @property
     def address(self):
@@ -50,12 +51,30 @@ class LiveBox:
         """The door that the box lends for these doors; it was used for the target."""
         check_door(source)
         check_door(target)
-        key = lending_case(self._kind[0], source, target)
-        if key not in self._cases:
-            self._cases[key] = self._lend_new(source)
-        door = self._cases[key]
-        self._uses[door][target] = True
+        door = self.offer(source, target)
+        self.note(source, target, door)
         return door
+
+    def offer(self, source, target):
+        """The door that is lent for these doors, or the new one that would be; nothing is noted yet."""
+        key = lending_case(self._kind[0], source, target)
+        if key in self._cases:
+            return self._cases[key]
+        number = next_number(self._numbers, len(self._order))
+        if not is_number(number) or (self._name, number) in self._inner:
+            raise InvalidNumber(number)
+        return (self._name, number)
+
+    def note(self, source, target, door):
+        """Lend the door that was offered for these doors, if it is new; it was used for the target."""
+        if door not in self._inner:
+            self._cases[lending_case(self._kind[0], source, target)] = door
+            self._inner[door] = source
+            self._uses[door] = {}
+            self._order = (*self._order, door)
+        if target not in self._uses[door]:
+            self._uses[door][target] = True
+            self._notes.append((door, target))
 
     def lets_in(self, door, source):
         """Whether a message from the source to this lent door is let in."""
@@ -82,16 +101,35 @@ class LiveBox:
         """The ascending tuple of all lent doors."""
         return tuple(sorted(self._order))
 
-    def _lend_new(self, source):
-        """Lend a door with a number that was not lent before."""
-        number = next_number(self._numbers, len(self._order))
-        if not is_number(number) or (self._name, number) in self._inner:
-            raise InvalidNumber(number)
-        door = (self._name, number)
-        self._inner[door] = source
-        self._uses[door] = {}
-        self._order = (*self._order, door)
-        return door
+    def lent_for(self, door):
+        """The target of the message for which this door was lent."""
+        return next(iter(self._uses[door]), None)
+
+    def many_notes(self):
+        """How many pairs of a lent door and a target have been noted."""
+        return len(self._notes)
+
+    def take_back(self, many):
+        """Keep the first notes alone, this many, and the doors that were lent for them."""
+        while len(self._notes) > many:
+            door, target = self._notes.pop()
+            del self._uses[door][target]
+            # The first use of a door is noted when it is lent, so the last door goes with its last use.
+            if not self._uses[door]:
+                del self._cases[lending_case(self._kind[0], self._inner[door], target)]
+                del self._inner[door]
+                del self._uses[door]
+                self._order = self._order[:-1]
+
+    def copied(self):
+        """A box like this one, with the same chooser, that goes on by itself."""
+        other = LiveBox(self._name, self._kind, numbers=self._numbers)
+        other._cases = {key: self._cases[key] for key in self._cases}
+        other._inner = {door: self._inner[door] for door in self._inner}
+        other._uses = {door: {target: True for target in self._uses[door]} for door in self._uses}
+        other._order = self._order
+        other._notes = list(self._notes)
+        return other
 
     def _check_lent(self, door):
         """Raise InvalidDoor for what is not a door that this box has lent."""
