@@ -4,8 +4,19 @@ import unittest
 
 from lentdoors.base.kinds import is_as_loose, kinds
 from lentdoors.base.nets import Net
+from lentdoors.chain.chains import (
+    CHAIN_KINDS, LOOKS, boxes_for, chain_kind, chain_of, is_as_loose_chain, joined_kinds, lets_in_by,
+)
+from lentdoors.chain.parting import is_parting, parting
+from lentdoors.know.hearing import hearing_paper, hears, is_hearing_paper, lines
+from lentdoors.know.short import crews, is_short, least_round, shortened
+from lentdoors.know.sorts import grade, is_single, own_sort, sorts, source_sort, used_sorts
+from lentdoors.know.tables import least_table, read_message, rounds
 from lentdoors.live.boxes import LiveBox
-from samples import CITY, OPEN, PAIR, STRICT, TIGHT
+from lentdoors.live.nets import LiveNet
+from lentdoors.live.talks import carried, fits, hearers
+from samples import CITY, MEET, OPEN, PAIR, STRICT, TIGHT
+
 
 
 class Examples(unittest.TestCase):
@@ -45,9 +56,90 @@ class Examples(unittest.TestCase):
         ]
         self.assertEqual(found, [('left', 70), ('left', 70), True, 1, ('a', 0)])
 
-    def test_nets_of_later_examples(self):
+    def test_stage_4(self):
+        live = LiveNet(PAIR)
+        found = [live.send("a", ("help", 0)), live.send("b", ("help", 0)), live.knows("help")]
+        self.assertEqual(found, ['help', 'help', (('help', 0), ('left', 1), ('right', 1))])
+        found = [live.send("help", ("left", 1)), live.send("a", ("right", 1)), live.knows("b")]
+        self.assertEqual(found, ['a', None, (('b', 0), ('help', 0))])
+        found = [live.send("help", ("right", 1)), live.send("b", ("left", 1)), live.heard("a")]
+        self.assertEqual(found, ['b', 'a', ('b', 'help')])
+
+    def test_stage_5(self):
+        found = [
+            hearers(PAIR, MEET), fits(PAIR, MEET.without(4)),
+            carried(PAIR, MEET, numbers=lambda many: 9 - many).heard("a"),
+        ]
+        self.assertEqual(found, [('help', 'help', 'a', None, 'b', 'a'), False, ('b', 'help')])
+
+    def test_stage_6(self):
+        found = [
+            chain_kind((("source", "address", "never"), ("address", "any", "lent"))),
+            joined_kinds(("address", "nothing"), ("source", "door")), len(CHAIN_KINDS),
+        ]
+        self.assertEqual(found, [('address', 'address'), ('address', 'both'), 14])
+        far, near = ("x", 5), ("x", 6)
+        found = [lets_in_by(("door", look), (far, near), far, near) for look in LOOKS]
+        self.assertEqual(found, [True, True, True, True, True, False])
+        found = [
+            chain_of(CITY, "a", "open"), is_as_loose_chain(("source", "door"), ("address", "key")),
+            len(boxes_for(("door", "door"))),
+        ]
+        self.assertEqual(found, [('source', 'door'), False, 2])
+
+    def test_stage_7(self):
         frame = PAIR.with_kind("right", ("door", "any", "never"))
-        self.assertEqual(frame.kind_of("right"), ("door", "any", "never"))
+        found = [
+            is_parting(("source", "address"), ("source", "door"), (frame, "left", "a", "b")),
+            parting(("door", "key"), ("door", "key")),
+        ]
+        self.assertEqual(found, [True, None])
+
+    def test_stage_8(self):
+        aid = own_sort(TIGHT, "help")
+        found = [grade(CITY, "b", "open"), source_sort(CITY, "b", aid), source_sort(TIGHT, "a", aid)]
+        self.assertEqual(found, ['address', ('b', 'open', 'help'), ('a', 'open', ('help', 'open', None))])
+        found = [
+            source_sort(TIGHT, "b", source_sort(TIGHT, "a", aid)), is_single(TIGHT, aid),
+            len(list(sorts(PAIR, "a", "open"))),
+        ]
+        self.assertEqual(found, [('b', 'open', ('left',)), False, 1])
+        found = used_sorts(CITY, "right", ("b", "open", "left"), (
+            ("a", "open", None), ("b", "right", None), ("help", "open", None),
+        ))
+        self.assertEqual(found, (('a', 'open', None),))
+
+    def test_stage_9(self):
+        found = [len(list(rounds(PAIR))), least_table(TIGHT)["help"], least_table(PAIR)["a"]]
+        self.assertEqual(found, [
+            3,
+            (('a', 'open', ('help', 'open', None)), ('b', 'open', ('help', 'open', None)), ('help', 'open', None)),
+            (('a', 'left', None), ('a', 'open', None), ('b', 'open', None), ('help', 'open', None)),
+        ])
+        found = read_message(PAIR, least_table(PAIR), "b", ("a", "open", None))
+        self.assertEqual(found, ('a', ('b', 'open', None)))
+
+    def test_stage_10(self):
+        found = [
+            hears(PAIR, "a", "b"), hears(TIGHT, "a", "b"), hears(TIGHT, "help", "a"),
+            hearing_paper(TIGHT, "a", "b")[0],
+        ]
+        self.assertEqual(found, [True, False, True, 'table'])
+        found = [lines(PAIR, "a", "b"), lines(TIGHT, "a", "help"), is_hearing_paper(PAIR, "a", "b", ("talk", MEET))]
+        self.assertEqual(found, [
+            ((('a', 'open', None), ('b', 'open', None)),),
+            ((('a', 'open', ('help', 'open', None)), ('help', 'open', None)),), True,
+        ])
+
+    def test_stage_11(self):
+        found = [
+            is_short(PAIR, MEET, ("a", "b")), shortened(PAIR, MEET, ("help", "b")), least_round(PAIR, ("a", "b")),
+        ]
+        self.assertEqual(found, [True, (1,), 3])
+        found = [crews(PAIR, ("a", "b")), crews(TIGHT, ("help", "a"))]
+        self.assertEqual(found, [(('a', 'b', 'help'),), (('a',),)])
+
+    def test_nets_of_later_examples(self):
         bare = Net(PAIR.boxes, {"a": "left", "aid": "open", "b": "right", "help": "open"})
         self.assertEqual([bare.tellers, bare.known, len(bare)], [(), (), 4])
         alone = Net(

@@ -36,6 +36,45 @@ INTERFACE = {
             "address", "kind", "__eq__", "__str__",
         ),
     },
+    "lentdoors.live.nets": {
+        "MAX_MESSAGES": None,
+        "LiveNet": (
+            "__init__", "send", "round", "knows", "heard", "log", "box", "net", "back", "copy", "__len__", "__iter__",
+            "__eq__", "__str__",
+        ),
+    },
+    "lentdoors.live.talks": {
+        "MAX_TALK": None,
+        "Talk": (
+            "__init__", "of", "messages", "__getitem__", "__len__", "__iter__", "__add__", "without", "senders",
+            "__eq__", "__str__",
+        ),
+        "fits": None, "carried": None, "hearers": None,
+    },
+    "lentdoors.chain.chains": {
+        name: None for name in (
+            "LOOKS", "CHAIN_KINDS", "chain_kind", "joined_kinds", "chain_of", "boxes_for", "is_as_loose_chain",
+            "lets_in_by",
+        )
+    },
+    "lentdoors.chain.parting": {name: None for name in ("put_behind", "parting", "is_parting")},
+    "lentdoors.know.sorts": {
+        name: None for name in (
+            "is_sort", "is_single", "sorts", "own_sort", "grade", "address_of", "source_sort", "used_sorts",
+            "live_sort",
+        )
+    },
+    "lentdoors.know.tables": {
+        name: None for name in ("is_table", "is_closed", "read_message", "first_table", "rounds", "least_table")
+    },
+    "lentdoors.know.hearing": {
+        name: None for name in ("hears", "hearing_paper", "is_hearing_paper", "talk_to", "lines")
+    },
+    "lentdoors.know.short": {
+        name: None for name in (
+            "is_goal", "reaches", "part", "is_short", "shortened", "short_talk", "least_round", "crews",
+        )
+    },
 }
 
 BUILTINS = set((
