@@ -37,6 +37,11 @@ MEET = Talk(
     ("a", ("own", "help")), ("b", ("own", "help")), ("help", ("shown", 0)), ("a", ("shown", 1)),
     ("help", ("shown", 1)), ("b", ("shown", 0)),
 )
+# Here b learns the door of a before a learns that of b: the first messages from b to a are lost, later ones arrive.
+LATE = Net(
+    {"p": ("open", ("source", "any", "never")), "q": ("open", ("source", "door", "never"))},
+    {"a": "q", "b": "p", "c": "p", "e": "open"}, tellers=("c", "e"), known=(("a", "e"), ("b", "c"), ("c", "e")),
+)
 KINDS = tuple(kinds())
 
 

@@ -11,11 +11,11 @@ from lentdoors.know.sorts import is_single
 from lentdoors.know.tables import is_closed, least_table, read_message
 from lentdoors.live.nets import LiveNet
 from lentdoors.live.talks import Talk, carried, fits, hearers
-from samples import CITY, DEEP, KINDS, MEET, NO_NETS, ODD, PAIR, TIGHT, random_net, random_nets, wide_net
+from samples import CITY, DEEP, KINDS, LATE, MEET, NO_NETS, ODD, PAIR, TIGHT, random_net, random_nets, wide_net
 from test_sorts import STEPS, refused, unknown
 from test_tables import full_table
 
-NETS = (PAIR, TIGHT, CITY, DEEP, STEPS, Net({}, {"a": "open"}))
+NETS = (PAIR, TIGHT, CITY, DEEP, LATE, STEPS, Net({}, {"a": "open"}))
 CHOOSERS = (None, lambda many: many, lambda many: 10 ** 39 - many, lambda many: 3 * many * many + 7)
 CALLS = (hears, hearing_paper, talk_to, lines)
 
@@ -106,7 +106,8 @@ class Agreement(unittest.TestCase):
             looser = [net.with_teller(chance.choice(tuple(net)))]
             for box in net.boxes:
                 looser.append(net.with_kind(box, chance.choice(list(kinds(least=net.kind_of(box))))))
-            looser.extend([net.with_known(*pair) for pair in pairs(net) if net.area_of(pair[1]) in net.areas_of(pair[0])])
+            can = [pair for pair in pairs(net) if net.area_of(pair[1]) in net.areas_of(pair[0])]
+            looser.extend([net.with_known(*pair) for pair in can])
             for other in looser:
                 self.assertEqual([pair for pair in before if not hears(other, *pair)], [])
 
@@ -138,8 +139,10 @@ class Papers(unittest.TestCase):
 
     def test_talks_that_show_nothing(self):
         short = Talk.of(MEET.messages()[:5])
-        for value in (Talk(), short, MEET + Talk(("a", ("own", "a"))), MEET + Talk(("b", ("own", "help"))),
-                      Talk(("b", ("own", "a"))), Talk(("b", ("own", "z"))), MEET.messages(), list(MEET), None, str(MEET)):
+        for value in (
+            Talk(), short, MEET + Talk(("a", ("own", "a"))), MEET + Talk(("b", ("own", "help"))),
+            Talk(("b", ("own", "a"))), Talk(("b", ("own", "z"))), MEET.messages(), list(MEET), None, str(MEET),
+        ):
             self.accepted(PAIR, "a", "b", ("talk", value), False)
         # It fits another net, but not this one; in a third one the last message is lost.
         self.accepted(PAIR.without("help"), "a", "b", ("talk", MEET), False)

@@ -88,6 +88,9 @@ METHODS = set((
     "items join keys ljust lower lstrip partition pop remove replace reverse rfind rjust rpartition rsplit rstrip "
     "setdefault split splitlines startswith strip update upper values zfill bit_length add discard"
 ).split())
+ITERATED_AT_ONCE = ("range", "zip", "enumerate", "reversed", "map")
+ITERATING = ("list", "tuple", "dict", "sorted", "sum", "any", "all", "min", "max", "enumerate", "zip", "len")
+OPERATORS = ("__add__", "__contains__", "__eq__", "__getitem__", "__iter__", "__len__", "__repr__", "__str__")
 BARRED = re.compile(
     r"\b(typing|typing_extensions|enum|Enum|IntEnum|StrEnum|Flag|IntFlag|Generic|Protocol|ABC|ABCMeta|namedtuple"
     r"|NamedTuple|TypedDict|TYPE_CHECKING|abstractmethod)\b|dataclass|overload|contextmanager|_wall|_WallAttr"
@@ -115,6 +118,11 @@ def bound_names(tree):
         if isinstance(node, ast.Assign):
             found[node.targets[0].id] = node
     return found
+
+
+def parents(tree):
+    """For each node that stands in another one, this other one."""
+    return {part: node for node in ast.walk(tree) for part in ast.iter_child_nodes(node)}
 
 
 def imports(tree):
@@ -193,6 +201,13 @@ class Rules(unittest.TestCase):
                     self.assertIsNone(alias.asname, name)
                     self.assertIn(alias.name, bound_names(TREES[node.module]), name)
 
+    def test_imported_names_are_used(self):
+        for path in [*PACKAGE.rglob("*.py"), *(ROOT / "tests").glob("*.py")]:
+            tree = ast.parse(path.read_text(encoding="utf-8"))
+            used = {node.id for node in ast.walk(tree) if isinstance(node, ast.Name)}
+            unused = [alias.name for node in imports(tree) for alias in node.names if alias.name not in used]
+            self.assertEqual(unused, [], path)
+
     def test_no_file_imports_from_itself_through_others(self):
         reached = {name: {node.module for node in imports(tree)} for name, tree in TREES.items()}
         for _ in FILES:
@@ -226,6 +241,51 @@ class Rules(unittest.TestCase):
                     self.assertNotIn(node.arg, taken, (name, node.lineno))
                 if isinstance(node, ast.Name) and isinstance(node.ctx, ast.Store):
                     self.assertNotIn(node.id, taken, (name, node.lineno))
+
+    def test_ranges_and_the_like_are_iterated_at_once(self):
+        for name, tree in TREES.items():
+            inside = parents(tree)
+            for node in ast.walk(tree):
+                if isinstance(node, ast.Call) and getattr(node.func, "id", "") in ITERATED_AT_ONCE:
+                    where = inside[node]
+                    if isinstance(where, ast.Call):
+                        self.assertIn(getattr(where.func, "id", ""), ITERATING, (name, node.lineno))
+                    else:
+                        self.assertIsInstance(where, (ast.For, ast.comprehension), (name, node.lineno))
+
+    def test_generators_are_no_values(self):
+        made = {node.name for tree in TREES.values() for node in ast.walk(tree) if isinstance(node, ast.FunctionDef)
+                if any(isinstance(part, (ast.Yield, ast.YieldFrom)) for part in ast.walk(node))}
+        self.assertLessEqual({"kinds", "sorts", "rounds"}, made)
+        for name, tree in TREES.items():
+            inside = parents(tree)
+            for node in ast.walk(tree):
+                if isinstance(node, ast.Name) and node.id in made:
+                    where = node
+                    while not isinstance(where, ast.FunctionDef):
+                        where = inside[where]
+                    # A parameter may have the name of a generator, if it is not called.
+                    self.assertIn(node.id, [one.arg for one in where.args.args], (name, node.lineno))
+                    call = inside[node]
+                    self.assertFalse(isinstance(call, ast.Call) and call.func is node, (name, node.lineno))
+            self.assertEqual([node.lineno for node in ast.walk(tree) if isinstance(node, ast.GeneratorExp)], [], name)
+
+    def test_attributes_are_no_methods_and_no_properties(self):
+        classes = [node for tree in TREES.values() for node in ast.walk(tree) if isinstance(node, ast.ClassDef)]
+        properties = {part.name for node in classes for part in node.body
+                      if isinstance(part, ast.FunctionDef) and part.decorator_list}
+        for node in classes:
+            methods = {part.name for part in node.body if isinstance(part, ast.FunctionDef)}
+            stored = {part.attr for part in ast.walk(node)
+                      if isinstance(part, ast.Attribute) and isinstance(part.ctx, ast.Store)}
+            self.assertEqual(stored & (methods | properties), set(), node.name)
+
+    def test_operators_change_no_attribute(self):
+        for name, tree in TREES.items():
+            for node in ast.walk(tree):
+                if isinstance(node, ast.FunctionDef) and node.name in OPERATORS:
+                    stored = [part for part in ast.walk(node) if isinstance(getattr(part, "ctx", None), ast.Store)]
+                    self.assertEqual([part.lineno for part in stored if not isinstance(part, ast.Name)], [], name)
 
 
 if __name__ == "__main__":

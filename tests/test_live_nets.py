@@ -664,6 +664,18 @@ class WrongNumbers(unittest.TestCase):
             live.back(many=2)
             self.assertEqual(state(live), state(LiveNet(row())))
 
+    def test_a_chooser_that_fails(self):
+        for many in range(6):
+            chooser = Chooser(*range(10, 10 + many))
+            live = LiveNet(row(), numbers=chooser)
+            before = state(live)
+            for call in (live.round, lambda: live.send("a", ("x", 0))):
+                if many < 3 or call == live.round:
+                    chooser.values = list(range(10, 10 + many))
+                    with self.assertRaises(IndexError):
+                        call()
+                    self.assertEqual(state(live), before)
+
     def test_asked_once_for_each_new_door(self):
         for kind, asked in ((ANY, [0, 0, 0, 1, 1, 2]), (STRICT, [0, 0, 0, 1, 1, 2])):
             chooser = Chooser(*range(40))

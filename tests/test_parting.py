@@ -6,7 +6,7 @@ import unittest
 from lentdoors.base.nets import Net
 from lentdoors.chain.chains import CHAIN_KINDS, boxes_for, chain_kind, chain_of
 from lentdoors.chain.parting import is_parting, parting, put_behind
-from lentdoors.errors import InvalidChain, InvalidNet, InvalidOperation, UnknownName
+from lentdoors.errors import InvalidChain, InvalidNet, InvalidOperation
 from lentdoors.know.hearing import hears
 from lentdoors.live.boxes import LiveBox
 from samples import CITY, DEEP, KINDS, MEET, NO_NETS, ODD, OPEN, PAIR, STRICT, nested, random_nets
@@ -93,7 +93,7 @@ class Putting(unittest.TestCase):
         for names in (
             # No names, too many, too few; there already, as a host or a box; open; twice; a list.
             ("Z",), ("z1",), ("abcdefghi",), ("",), ("z", "y"), (), ("a",), ("help",), ("left",), ("right",), ("open",),
-            ["z"], "z", {"z": True},
+            ["z"], "z", {"z": True}, ("z", "z"),
         ):
             refused(self, InvalidOperation, put_behind, PAIR, "left", (OPEN, OPEN), names=names)
         for names in (("z", "z"), ("z", "left"), ("a", "z"), ("z",), ("z", "y", "x"), ("open", "z")):
@@ -179,7 +179,8 @@ class Judging(unittest.TestCase):
         net = Net(boxes, hosts, tellers=("help",), known=(("a", "help"), ("b", "help")))
         found = [hears(net.with_kind("left", kind), "a", "b") for kind in (("source", "any", "never"), STRICT)]
         self.assertEqual(found, [True, True])
-        net = put_behind(FRAME, "right", (("door", "any", "never"),) + (("source", "any", "never"),) * 2, names=("y", "z"))
+        kinds = (("door", "any", "never"),) + (("source", "any", "never"),) * 2
+        net = put_behind(FRAME, "right", kinds, names=("y", "z"))
         self.assertEqual(len(net.boxes), 4)
         value = (net, "left", "a", "b")
         self.assertIs(is_parting(("source", "address"), ("source", "door"), value), True)

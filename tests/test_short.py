@@ -12,7 +12,7 @@ from lentdoors.know.sorts import live_sort, own_sort
 from lentdoors.know.tables import least_table, read_message, rounds
 from lentdoors.live.nets import LiveNet
 from lentdoors.live.talks import Talk, carried, fits, hearers
-from samples import CITY, DEEP, KINDS, MEET, NO_NETS, ODD, PAIR, STRICT, TIGHT, nested, random_nets
+from samples import CITY, DEEP, KINDS, LATE, MEET, NO_NETS, ODD, PAIR, STRICT, TIGHT, nested, random_nets
 from test_live_changes import line
 from test_sorts import all_sorts, refused
 from test_tables import messages_of
@@ -306,7 +306,7 @@ class ShortTalks(unittest.TestCase):
 
 class LeastRound(unittest.TestCase):
     def test_against_the_rounds_of_tables(self):
-        for net in (PAIR, TIGHT, CITY, DEEP) + tuple(random_nets(13, 40)):
+        for net in (PAIR, TIGHT, CITY, DEEP, LATE) + tuple(random_nets(13, 40)):
             tables = list(rounds(net))
             heard = []
             for table in tables:
@@ -380,6 +380,13 @@ class Crews(unittest.TestCase):
                 # With more hosts than those of a crew the goal is reached, too.
                 self.assertEqual([one for one in sets if any(set(crew) <= set(one) for crew in least)], does)
         self.assertEqual(found, {0, 1, 2, 3})
+
+    def test_in_ascending_order(self):
+        # The crew of two is found later than the other one, but is less.
+        hosts = {name: "open" for name in ("a", "b", "x", "y")}
+        known = (("a", "x"), ("b", "x"), ("b", "y"), ("y", "a"))
+        net = Net({}, hosts, tellers=("a", "b"), known=known)
+        self.assertEqual(crews(net, ("x", own_sort(net, "y"))), (("a", "y"), ("b",)))
 
     def test_nobody_has_to_send(self):
         self.assertEqual(crews(PAIR, ("a", own_sort(PAIR, "a"))), ((),))

@@ -116,8 +116,10 @@ class Judging(unittest.TestCase):
     def test_values_near_to_sorts(self):
         for net in NETS:
             for sort in all_sorts(net):
-                near = [sort + (None,), sort[:2], list(sort), sort[::-1], (sort,), nested(sort, 1), (*sort[:2], [sort[2]]),
-                        (*sort[:2], (sort[2],)), (*sort[:2], sort), (*sort[:2], ()), (*sort[:2], (sort[2], sort[2]))]
+                near = [
+                    sort + (None,), sort[:2], list(sort), sort[::-1], (sort,), nested(sort, 1), (*sort[:2], [sort[2]]),
+                    (*sort[:2], (sort[2],)), (*sort[:2], sort), (*sort[:2], ()), (*sort[:2], (sort[2], sort[2])),
+                ]
                 for value in near:
                     expected = value[2] in keys(net, *sort[:2]) if value[:2] == sort[:2] and len(value) == 3 else False
                     self.assertIs(is_sort(net, value), expected, value)
@@ -236,7 +238,8 @@ class SourceSort(unittest.TestCase):
             # Not an area of the host; a target that lies further in, or elsewhere; also without an area.
             ("a", target, "right"), ("help", target, "left"), ("a", ("a", "left", None), "open"),
             ("a", ("b", "right", None), "left"), ("a", ("b", "right", None), "open"),
-            ("a", ("b", "right", None), "right"), ("a", ("b", "right", None), None), ("help", ("a", "left", None), None),
+            ("a", ("b", "right", None), "right"), ("a", ("b", "right", None), None),
+            ("help", ("a", "left", None), None),
         ):
             refused(self, InvalidOperation, source_sort, PAIR, host, sort, area=area)
         with self.assertRaises(TypeError):
@@ -310,6 +313,7 @@ class UsedSorts(unittest.TestCase):
             unknown(self, value, used_sorts, PAIR, value, None, None)
         for value in ODD + (("a", "open", "help"), ("z", "open", None), ("a", "open")):
             refused(self, InvalidSort, used_sorts, PAIR, "right", value, None)
+            refused(self, InvalidSort, used_sorts, PAIR, "right", value, ())
         for value in ODD + (known[::-1], list(known), known[:1] * 2, known + (None,), (None,), target, {target: True},
                             (("z", "open", None),)):
             if value != ():

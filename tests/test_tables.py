@@ -4,15 +4,15 @@ import random
 import unittest
 
 from lentdoors.base.nets import Net
-from lentdoors.errors import InvalidNet, InvalidOperation, InvalidSort, InvalidTable, UnknownName
+from lentdoors.errors import InvalidNet, InvalidOperation, InvalidSort, InvalidTable
 from lentdoors.know.sorts import address_of, is_single, live_sort, own_sort, source_sort, used_sorts
 from lentdoors.know.tables import first_table, is_closed, is_table, least_table, read_message, rounds
 from lentdoors.live.nets import LiveNet
-from samples import CITY, DEEP, KINDS, MEET, NO_NETS, ODD, PAIR, TIGHT, nested, random_nets, wide_net
+from samples import CITY, DEEP, KINDS, LATE, MEET, NO_NETS, ODD, PAIR, TIGHT, nested, random_nets, wide_net
 from test_live_changes import line
 from test_sorts import STEPS, all_sorts, refused, unknown
 
-NETS = (PAIR, TIGHT, CITY, DEEP, STEPS)
+NETS = (PAIR, TIGHT, CITY, DEEP, LATE, STEPS)
 X, Y = ("x", "open", None), ("y", "open", None)
 
 
@@ -222,9 +222,11 @@ class Reading(unittest.TestCase):
     def test_each_box_of_a_chain_looks(self):
         # a has used x; each box reads the target by what was lent up to it, and lets in from x alone.
         for at, letting in ((at, letting) for at in range(3) for letting in ("address", "door")):
-            kinds = [["source", "address", "door"][place] for place in range(3)]
-            boxes = {"pqr"[place]: (("q", "r", "open")[place], (kinds[place], letting if place == at else "any", "never"))
-                     for place in range(3)}
+            lettings = [letting if place == at else "any" for place in range(3)]
+            boxes = {
+                "p": ("q", ("source", lettings[0], "never")), "q": ("r", ("address", lettings[1], "never")),
+                "r": ("open", ("door", lettings[2], "never")),
+            }
             net = Net(boxes, {"a": "p", "x": "open", "y": "open"})
             for key, heard in ((X, "x"), (Y, "")):
                 target = ("a", "open", key)
@@ -357,13 +359,22 @@ class Rounds(unittest.TestCase):
         live.round()
         self.assertEqual(["b" in live.heard("a"), "a" in live.heard("b")], [True, True])
 
+    def test_what_is_lost_may_arrive_later(self):
+        a, b = ("a", "open", None), ("b", "open", None)
+        tables = list(rounds(LATE))
+        self.assertEqual([a in table["b"] for table in tables], [False, False, False, True, True])
+        self.assertEqual([b in table["a"] for table in tables], [False, False, False, False, True])
+        found = [read_message(LATE, table, "b", a) for table in tables[3:]]
+        self.assertEqual(found, [(None, None), ("a", b)])
+
     def test_no_round_that_adds_a_sort(self):
         net = Net({}, {"a": "open", "b": "open"})
         self.assertEqual(list(rounds(net)), [first_table(net)])
         self.assertEqual(least_table(net), first_table(net))
 
     def test_against_live_rounds(self):
-        for net in NETS + tuple(random_nets(19, 250)):
+        strict = [kind for kind in KINDS if kind[1] == "door"]
+        for net in NETS + tuple(random_nets(19, 250)) + tuple(random_nets(20, 100, boxes=3, hosts=5, choice=strict)):
             self.check(net, 500)
 
     def test_against_live_rounds_of_wide_nets(self):

@@ -44,15 +44,18 @@ class Making(unittest.TestCase):
         for at in range(len(MESSAGES) + 1):
             before, behind = MESSAGES[:at], MESSAGES[at:]
             for value in ODD + (("a", "b"), nested(FIRST, 1), nested(FIRST, 2), nested(FIRST, 3)):
-                messages = [value, (value, ("own", "help")), ("a", value), ("a", ("own", value)), ("a", (value, "help")),
-                            ("a", (value, 0)), ("a", ("own", "help"), value), ("a", ("own", "help", value))]
+                messages = [
+                    value, (value, ("own", "help")), ("a", value), ("a", ("own", value)), ("a", (value, "help")),
+                    ("a", (value, 0)), ("a", ("own", "help"), value), ("a", ("own", "help", value)),
+                ]
                 if type(value) is not int or not 0 <= value < at:
                     messages.append(("a", ("shown", value)))
                 for message in messages:
                     self.refused(*before, message)
             self.refused(*before, ("a", ("shown", at)), *behind)
             for message in (
-                "a", ("a", "a"), ("a", ("a", "own")), ("a", "own", "help"), ("a", ("own", 0)), ("a", ("shown", "help")), ("a", ("own", ("help", 0))), ("a", ("help", 0)),
+                "a", ("a", "a"), ("a", ("a", "own")), ("a", "own", "help"), ("a", ("own", 0)), ("a", ("shown", "help")),
+                ("a", ("own", ("help", 0))), ("a", ("help", 0)),
                 ("a", ("Own", "help")), ["a", ("own", "help")], ("a", ["own", "help"]), ("a", ("shown", True)),
                 ("a", ("shown", False)), ("a", ("shown", -1)), ("a", ("shown", at + 1)), ("a", ("shown", 10 ** 39)),
                 ("A", ("own", "help")), ("a", ("own", "")), ("abcdefghi", ("own", "help")), ("a", ("own", "help!")),

@@ -31,7 +31,7 @@ BEHIND = {
 
 def is_chain_kind(value):
     """Whether the value is a chain kind."""
-    return isinstance(value, tuple) and value in CHAIN_KINDS
+    return value in CHAIN_KINDS
 
 
 def check_chain(value):

@@ -53,10 +53,10 @@ def put_behind(net, box, kinds, *, names=()):
 
 def hears_behind(net, box, chain, host, speaker):
     """Whether the host can come to hear the speaker with a chain of this kind behind the box; None if it is no net."""
-    kinds = boxes_for(chain)
+    row = boxes_for(chain)
     free = [name for name in LETTERS if name not in net]
     try:
-        changed = put_behind(net, box, kinds, names=tuple(free[:len(kinds) - 1]))
+        changed = put_behind(net, box, row, names=tuple(free[:len(row) - 1]))
     except InvalidOperation:
         return None
     return hears(changed, host, speaker)

@@ -8,7 +8,7 @@ from lentdoors.know.course import Course, talk_for
 from lentdoors.know.sorts import Ground
 from lentdoors.know.tables import tables_of
 from lentdoors.live.nets import LiveNet
-from lentdoors.live.talks import Talk, check_talk, fits, reference, referring, sent
+from lentdoors.live.talks import Talk, check_talk, reference, referring, sent
 
 
 class Trial:
@@ -103,11 +103,11 @@ def course_to(net, goal):
 
 
 def subsets(names):
-    """The list of all subsets of an ascending tuple, as ascending tuples, smaller ones first."""
+    """The list of all subsets of an ascending tuple, as ascending tuples, each behind those that it contains."""
     found = [()]
     for name in names:
         found = found + [(*one, name) for one in found]
-    return sorted(found, key=len)
+    return found
 
 
 def is_goal(net, value):

@@ -44,7 +44,6 @@ class LiveNet:
     def __init__(self, net, *, numbers=None):
         check_net(net)
         self._net = net
-        self._numbers = numbers
         self._boxes = {box: LiveBox(box, net.kind_of(box), numbers=numbers) for box in net.boxes}
         self._knows = {host: {(host, 0): True} for host in net}
         for host, other in net.known:
@@ -138,7 +137,7 @@ class LiveNet:
 
     def copy(self):
         """An equal live net with the same chooser and the same calls to take back, that goes on by itself."""
-        other = LiveNet(self._net, numbers=self._numbers)
+        other = LiveNet(self._net)
         other._boxes = {name: self._boxes[name].copied() for name in self._boxes}
         other._knows = {host: {door: True for door in self._knows[host]} for host in self._knows}
         other._log = self._log
