@@ -43,6 +43,12 @@ LATE = Net(
     {"a": "q", "b": "p", "c": "p", "e": "open"}, tellers=("c", "e"), known=(("a", "e"), ("b", "c"), ("c", "e")),
 )
 KINDS = tuple(kinds())
+NEVER = tuple(kinds(most=("source", "any", "never")))
+# PAIR with one more host, in which nobody tells or knows anything at first, and what may help there.
+BARE = Net(PAIR.boxes, {"a": "left", "aid": "open", "b": "right", "help": "open"})
+HELPS = tuple([("known", host, other) for host in ("a", "b") for other in ("aid", "help")]) + (
+    ("teller", "aid"), ("teller", "help"),
+)
 
 
 class Chooser:

@@ -8,15 +8,22 @@ from lentdoors.chain.chains import (
     CHAIN_KINDS, LOOKS, boxes_for, chain_kind, chain_of, is_as_loose_chain, joined_kinds, lets_in_by,
 )
 from lentdoors.chain.parting import is_parting, parting
+from lentdoors.desk.desk import Desk
 from lentdoors.know.hearing import hearing_paper, hears, is_hearing_paper, lines
 from lentdoors.know.short import crews, is_short, least_round, shortened
 from lentdoors.know.sorts import grade, is_single, own_sort, sorts, source_sort, used_sorts
 from lentdoors.know.tables import least_table, read_message, rounds
 from lentdoors.live.boxes import LiveBox
 from lentdoors.live.nets import LiveNet
-from lentdoors.live.talks import carried, fits, hearers
-from samples import CITY, MEET, OPEN, PAIR, STRICT, TIGHT
-
+from lentdoors.live.talks import Talk, carried, fits, hearers
+from lentdoors.texts.reading import read_sort, read_talk
+from lentdoors.texts.writing import grid_text, net_text, sort_text, talk_text
+from lentdoors.wide.choices import choice_paper, price_of
+from lentdoors.wide.helps import bars_of, help_paper, roles
+from lentdoors.wide.maps import NetMap, is_map
+from lentdoors.wide.openings import frontier
+from lentdoors.wide.relations import Hearing
+from samples import BARE, CITY, HELPS, MEET, NEVER, OPEN, PAIR, STRICT, TIGHT
 
 
 class Examples(unittest.TestCase):
@@ -139,14 +146,78 @@ class Examples(unittest.TestCase):
         found = [crews(PAIR, ("a", "b")), crews(TIGHT, ("help", "a"))]
         self.assertEqual(found, [(('a', 'b', 'help'),), (('a',),)])
 
-    def test_nets_of_later_examples(self):
-        bare = Net(PAIR.boxes, {"a": "left", "aid": "open", "b": "right", "help": "open"})
-        self.assertEqual([bare.tellers, bare.known, len(bare)], [(), (), 4])
+    def test_stage_12(self):
+        found = [
+            Hearing(TIGHT).pairs(), Hearing(TIGHT).bars("a", "b"), Hearing(TIGHT).relay("a", "b"), len(Hearing(PAIR)),
+        ]
+        self.assertEqual(found, [
+            (('a', 'help'), ('b', 'help'), ('help', 'a'), ('help', 'b')), ('left', 'right'), ('b', 'help', 'a'), 6,
+        ])
+
+    def test_stage_13(self):
+        way = NetMap.within(TIGHT, PAIR)
+        found = [
+            hearers(PAIR, way(Talk(("a", ("own", "help"))))), way["a"], str(way * NetMap.within(PAIR, PAIR)),
+            is_map(PAIR, TIGHT, (way.hosts, way.boxes)),
+        ]
+        self.assertEqual(found, [('help',), 'a', 'map of 3 hosts, 2 boxes', False])
         alone = Net(
             {}, {"a": "open", "b": "open", "help": "open"}, tellers=("help",), known=(("a", "help"), ("b", "help")),
         )
-        self.assertEqual(str(alone), "net of 3 hosts, 0 boxes")
-        self.assertEqual(len(tuple(kinds(most=("source", "any", "never")))), 9)
+        hosts = {"a": "a", "b": "b", "help": "help"}
+        way = NetMap(TIGHT, alone, hosts, boxes={"left": None, "right": None})
+        self.assertEqual(way.dissolved(), ('left', 'right'))
+
+    def test_stage_14(self):
+        self.assertEqual(NEVER, tuple(kinds(most=("source", "any", "never"))))
+        found = frontier(TIGHT, {"right": NEVER}, ("a", "b"))
+        kinds_found = [[lot[0][1] for lot, talks in found[0]], [lot[0][1] for lot, wish, table in found[1]]]
+        self.assertEqual(kinds_found, [
+            [('source', 'address', 'never')], [('address', 'any', 'never'), ('source', 'door', 'never')],
+        ])
+        found = frontier(PAIR, {"left": NEVER, "right": NEVER}, ("a", "b"), ("b", "a"))
+        self.assertEqual([len(part) for part in found], [5, 3])
+
+    def test_stage_15(self):
+        self.assertEqual([BARE.tellers, BARE.known, BARE.boxes], [(), (), PAIR.boxes])
+        self.assertEqual([subset for subset, talks in help_paper(BARE, HELPS, ("a", "b"))[0]], [
+            (('known', 'a', 'aid'), ('known', 'b', 'aid'), ('teller', 'aid')),
+            (('known', 'a', 'help'), ('known', 'b', 'help'), ('teller', 'help')),
+        ])
+        found = [len(bars_of(BARE, HELPS, ("a", "b"))), roles(PAIR, HELPS[1:2], ("a", "b"))]
+        self.assertEqual(found, [9, {('known', 'a', 'help'): 'idle'}])
+
+    def test_stage_16(self):
+        prices = {"left": {("address", "any", "never"): 5, OPEN: 2}, "right": {STRICT: 4, OPEN: 1}}
+        found = choice_paper(PAIR, prices, (("a", "b"),), (("b", "a"),))
+        self.assertEqual([found[0], found[1], price_of(prices, found[1])], [
+            'lot', (('left', ('address', 'any', 'never')), ('right', ('door', 'door', 'never'))), 9,
+        ])
+        self.assertEqual(choice_paper(PAIR, prices, (("a", "b"),), (("a", "b"),))[0], 'none')
+
+    def test_stage_17(self):
+        found = [
+            net_text(PAIR).split("\n")[1], talk_text(MEET).split("\n")[2:4],
+            read_talk("a to help\nhelp to #0") == Talk(("a", ("own", "help")), ("help", ("shown", 0))),
+        ]
+        self.assertEqual(found, ['box right in open source address never', ['help to #0', 'a to #1'], True])
+        found = [
+            sort_text(("b", "open", ("left",))), read_sort("a@open(b@open(left))"),
+            grid_text(("a", "b"), (("a", "b"),)).split("\n")[1],
+        ]
+        self.assertEqual(found, [
+            'b@open(*left)', ('a', 'open', ('b', 'open', 'left')), 'a               .        x',
+        ])
+
+    def test_stage_18(self):
+        desk = Desk()
+        found = desk.run_all(
+            "new x box left in open source address never; host a in left; host b in open; known a b",
+            "send x a to b", "hears x b a", "undo", "heard x b",
+        )
+        self.assertEqual(found, ('net of 2 hosts, 1 boxes', 'heard by b', 'yes', 'desk with 1 works', 'nobody'))
+        found = [desk.run("reach x a b"), desk.run("hears x a b"), desk.script()[1:]]
+        self.assertEqual(found, ['heard', 'yes', ('reach x a b',)])
 
 
 if __name__ == "__main__":

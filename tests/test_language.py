@@ -75,6 +75,44 @@ INTERFACE = {
             "is_goal", "reaches", "part", "is_short", "shortened", "short_talk", "least_round", "crews",
         )
     },
+    "lentdoors.wide.relations": {
+        "Hearing": (
+            "__init__", "__getitem__", "speakers_of", "listeners_of", "pairs", "__iter__", "__len__", "__contains__",
+            "both", "lined", "relay", "bars", "is_within", "__sub__", "__eq__", "__str__", "net",
+        ),
+        "are_alike": None,
+    },
+    "lentdoors.wide.maps": {
+        "NetMap": (
+            "__init__", "within", "net", "other", "hosts", "boxes", "__getitem__", "area", "__call__", "__mul__",
+            "dissolved", "is_one_to_one", "__eq__", "__str__",
+        ),
+        "is_map": None, "maps": None,
+    },
+    "lentdoors.wide.openings": {
+        name: None for name in (
+            "MAX_LOTS", "fulfils", "lots", "net_of", "frontier", "is_frontier", "decided",
+        )
+    },
+    "lentdoors.wide.helps": {
+        name: None for name in ("MAX_HELPS", "with_helps", "help_paper", "is_help_paper", "bars_of", "roles")
+    },
+    "lentdoors.wide.choices": {
+        name: None for name in ("price_of", "ranked", "choice_paper", "is_choice_paper", "excludes")
+    },
+    "lentdoors.texts.writing": {
+        name: None for name in ("net_text", "talk_text", "sort_text", "table_text", "grid_text")
+    },
+    "lentdoors.texts.reading": {
+        name: None for name in ("read_net", "read_talk", "read_sort", "read_table", "read_grid")
+    },
+    "lentdoors.desk.desk": {
+        "MAX_WORKS": None, "MAX_CHANGES": None,
+        "Desk": (
+            "__init__", "run", "run_all", "works", "net_of", "talk_of", "live_of", "script", "__contains__",
+            "__len__", "__eq__", "__str__",
+        ),
+    },
 }
 
 BUILTINS = set((
@@ -90,7 +128,9 @@ METHODS = set((
 ).split())
 ITERATED_AT_ONCE = ("range", "zip", "enumerate", "reversed", "map")
 ITERATING = ("list", "tuple", "dict", "sorted", "sum", "any", "all", "min", "max", "enumerate", "zip", "len")
-OPERATORS = ("__add__", "__contains__", "__eq__", "__getitem__", "__iter__", "__len__", "__repr__", "__str__")
+OPERATORS = (
+    "__add__", "__contains__", "__eq__", "__getitem__", "__iter__", "__len__", "__mul__", "__repr__", "__str__", "__sub__",
+)
 BARRED = re.compile(
     r"\b(typing|typing_extensions|enum|Enum|IntEnum|StrEnum|Flag|IntFlag|Generic|Protocol|ABC|ABCMeta|namedtuple"
     r"|NamedTuple|TypedDict|TYPE_CHECKING|abstractmethod)\b|dataclass|overload|contextmanager|_wall|_WallAttr"
@@ -256,7 +296,7 @@ class Rules(unittest.TestCase):
     def test_generators_are_no_values(self):
         made = {node.name for tree in TREES.values() for node in ast.walk(tree) if isinstance(node, ast.FunctionDef)
                 if any(isinstance(part, (ast.Yield, ast.YieldFrom)) for part in ast.walk(node))}
-        self.assertLessEqual({"kinds", "sorts", "rounds"}, made)
+        self.assertLessEqual({"kinds", "lots", "maps", "ranked", "rounds", "sorts"}, made)
         for name, tree in TREES.items():
             inside = parents(tree)
             for node in ast.walk(tree):
@@ -264,10 +304,12 @@ class Rules(unittest.TestCase):
                     where = node
                     while not isinstance(where, ast.FunctionDef):
                         where = inside[where]
-                    # A parameter may have the name of a generator, if it is not called.
-                    self.assertIn(node.id, [one.arg for one in where.args.args], (name, node.lineno))
                     call = inside[node]
-                    self.assertFalse(isinstance(call, ast.Call) and call.func is node, (name, node.lineno))
+                    called = isinstance(call, ast.Call) and call.func is node
+                    # A parameter may have the name of a generator, if it is not called.
+                    self.assertEqual(node.id in [one.arg for one in where.args.args], not called, (name, node.lineno))
+                    if called:
+                        self.assertIsInstance(inside[call], (ast.For, ast.comprehension), (name, node.lineno))
             self.assertEqual([node.lineno for node in ast.walk(tree) if isinstance(node, ast.GeneratorExp)], [], name)
 
     def test_attributes_are_no_methods_and_no_properties(self):
@@ -285,7 +327,7 @@ class Rules(unittest.TestCase):
             for node in ast.walk(tree):
                 if isinstance(node, ast.FunctionDef) and node.name in OPERATORS:
                     stored = [part for part in ast.walk(node) if isinstance(getattr(part, "ctx", None), ast.Store)]
-                    self.assertEqual([part.lineno for part in stored if not isinstance(part, ast.Name)], [], name)
+                    self.assertEqual([part.lineno for part in stored if not isinstance(part, (ast.Name, ast.Tuple))], [], name)
 
 
 if __name__ == "__main__":

@@ -6,7 +6,7 @@ from lentdoors.errors import InvalidOperation, Unheard
 from lentdoors.know.course import Course, talk_for
 from lentdoors.know.sorts import Ground
 from lentdoors.know.tables import is_closed_on, is_table_on, reading_of, tables_of
-from lentdoors.live.talks import Talk, fits, hearers
+from lentdoors.live.talks import Talk, after
 
 
 def check_pair(net, host, other):
@@ -20,9 +20,10 @@ def check_pair(net, host, other):
 
 def is_hearing_talk(net, host, other, value):
     """Whether the value is a talk that fits the net and ends with a message from the other one to the host."""
-    if not isinstance(value, Talk) or len(value) == 0 or not fits(net, value):
+    if not isinstance(value, Talk) or len(value) == 0 or value.messages()[-1][0] != other:
         return False
-    return value[len(value) - 1][0] == other and hearers(net, value)[-1] == host
+    live = after(net, value, None)
+    return live is not None and live.log()[-1][3] == host
 
 
 def is_barring_table(net, host, other, value):
@@ -81,10 +82,14 @@ def is_line(course, one, other):
     )
 
 
-def lines(net, host, other):
-    """The ascending tuple of the pairs of a sort of each host by which they can go on talking."""
-    check_pair(net, host, other)
-    course = Course(net, tuple(net))
+def lines_in(course, host, other):
+    """The lines of two hosts in the course of a net in which all hosts send."""
     has = course.reading.has
     pairs = [(one, two) for one in has[other] if one[0] == host for two in has[host] if two[0] == other]
     return tuple(sorted([pair for pair in pairs if is_line(course, *pair)]))
+
+
+def lines(net, host, other):
+    """The ascending tuple of the pairs of a sort of each host by which they can go on talking."""
+    check_pair(net, host, other)
+    return lines_in(Course(net, tuple(net)), host, other)

@@ -1,0 +1,1 @@
+"""A desk, on which nets and talks are worked out by commands."""

@@ -1,0 +1,1 @@
+"""Texts of nets, talks, sorts, tables and grids."""

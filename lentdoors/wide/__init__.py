@@ -1,0 +1,1 @@
+"""What holds in whole nets: relations, maps, openings, helps, choices."""
