@@ -10,7 +10,7 @@ from lentdoors.errors import InvalidNet, InvalidOperation
 from lentdoors.know.hearing import hears, lines
 from lentdoors.live.talks import Talk, fits, hearers
 from lentdoors.wide.relations import Hearing, are_alike
-from samples import BARE, CITY, DEEP, KINDS, LATE, MEET, NEVER, NO_NETS, ODD, PAIR, STRICT, TIGHT, random_net, random_nets
+from samples import BARE, CITY, DEEP, KINDS, LATE, NEVER, NO_NETS, ODD, PAIR, STRICT, TIGHT, random_net, random_nets
 from test_hearing import pairs
 from test_sorts import STEPS, refused, unknown
 
