@@ -13,7 +13,6 @@ from lentdoors.live.talks import Talk
 from lentdoors.wide.choices import choice_paper, excludes, is_choice_paper, price_of, ranked
 from lentdoors.wide.openings import lots, net_of
 from samples import CITY, DEEP, KINDS, MEET, NEVER, NO_NETS, ODD, OPEN, PAIR, STRICT, TIGHT, random_nets
-from test_hearing import pairs
 from test_openings import NO_LOTS, NO_WISHES, THREE, is_looser_lot, some_offer, some_wishes
 from test_sorts import refused
 from test_tables import full_table
@@ -24,8 +23,11 @@ HUGE = 10 ** 40 - 1
 NO_PRICES = ODD + (
     {"left": {}}, {"left": {OPEN: -1}}, {"left": {OPEN: True}}, {"left": {OPEN: None}}, {"left": {OPEN: "1"}},
     {"left": {"source": 1}}, {"left": {OPEN[:2]: 1}}, {"left": (OPEN,)}, {"left": [(OPEN, 1)]}, {"left": None},
+    {"left": {OPEN: 1, "x": 2}}, {"left": {OPEN: 1, STRICT: -1}}, {0: {OPEN: 1}, "left": {OPEN: 1}},
+    {"left": {OPEN: 1}, None: 1},
     {"left": {OPEN: 1}, "right": {}}, {"Left": {OPEN: 1}}, {"open": {OPEN: 1}}, {0: {OPEN: 1}}, {("left",): {OPEN: 1}},
-    {name: {OPEN: 1} for name in ("l", "m", "n", "o")}, (("left", {OPEN: 1}),), {"left": {OPEN: [1]}}, {"left": {None: 1}},
+    {name: {OPEN: 1} for name in ("l", "m", "n", "o")}, (("left", {OPEN: 1}),), {"left": {OPEN: [1]}},
+    {"left": {None: 1}},
 )
 
 
@@ -95,7 +97,8 @@ class Prices(unittest.TestCase):
         for prices in NO_PRICES:
             refused(self, InvalidOperation, price_of, prices, good)
             refused(self, InvalidOperation, price_of, prices, None)
-        for lot in NO_LOTS + ((("left", OPEN),), (("left", STRICT), ("right", OPEN)), (("left", OPEN), ("z", OPEN)), good[::-1],
+        for lot in NO_LOTS + ((("left", OPEN),), (("left", STRICT), ("right", OPEN)), (("left", OPEN), ("z", OPEN)),
+                good[::-1],
                               (("left", OPEN), ("mid", OPEN), ("right", OPEN))):
             refused(self, InvalidOperation, price_of, PRICES, lot)
         self.assertEqual(price_of(PRICES, good), 3)
@@ -198,8 +201,10 @@ class Papers(unittest.TestCase):
             for wishes in [*NO_WISHES, None, [("a", "b")], 0, "a", {("a", "b"): 1}]:
                 if wishes != ():
                     refused(self, InvalidOperation, call, PAIR, PRICES, wishes, None)
+                    refused(self, InvalidOperation, call, PAIR, PRICES, wishes, ())
                     refused(self, InvalidOperation, call, PAIR, PRICES, (), wishes)
         refused(self, InvalidOperation, choice_paper, PAIR, {**PRICES, "z": {OPEN: 1}}, (), ())
+        refused(self, InvalidOperation, choice_paper, DEEP, {box: {OPEN: 1} for box in DEEP.boxes}, (), ())
 
     def test_new_values(self):
         arguments = (PAIR, PRICES, (("a", "b"),), (("b", "a"),))
@@ -254,7 +259,8 @@ class Judged(unittest.TestCase):
         other = least_table(net_of(PAIR, lot).with_teller("b"))
         self.judged(("lot", lot, talks, (other,), reasons),
                     is_hearing_paper(net_of(PAIR, lot), "b", "a", ("table", other)))
-        for wrong in ((), talks[:1], talks[::-1], talks + talks, list(talks), None, (talks[0], Talk()), (talks[0], None),
+        for wrong in ((), talks[:1], talks[::-1], talks + talks, list(talks), None, (talks[0], Talk()),
+                (talks[0], None),
                       (talks[0], talks[1] + Talk(("b", ("own", "b")))), (talks[0].messages(), talks[1]), (MEET, MEET)):
             self.judged(("lot", lot, wrong, tables, reasons), False)
         for wrong in ((), tables + tables, list(tables), None, ({},), (None,), tables[0], ({**tables[0], "a": ()},),
@@ -267,10 +273,12 @@ class Judged(unittest.TestCase):
             other = {"unheard": "heard", "heard": "unheard"}[word]
             for wrong in (
                 (other, lot, pair, shown), ("Heard", lot, pair, shown), (None, lot, pair, shown), (word, lot, pair),
-                (word, lot, pair, None), (word, lot, pair, Talk()), (word, lot, pair, {}), (word, lot, pair[::-1], shown),
+                (word, lot, pair, None), (word, lot, pair, Talk()), (word, lot, pair, {}),
+                (word, lot, pair[::-1], shown),
                 (word, lot, None, shown), (word, lot, list(pair), shown), (word, lot, ("a", "help"), shown),
                 (word, lot[:1], pair, shown), (word, lot[::-1], pair, shown), (word, None, pair, shown),
-                (word, (("left", KINDS[0]), lot[1]), pair, shown), [word, lot, pair, shown], (word, lot, pair, shown, 0), None,
+                (word, (("left", KINDS[0]), lot[1]), pair, shown), [word, lot, pair, shown],
+                (word, lot, pair, shown, 0), None,
             ):
                 self.judged((*found[:4], found[4][:at] + (wrong,) + found[4][at + 1:]), False)
 
@@ -278,7 +286,8 @@ class Judged(unittest.TestCase):
         found = self.paper()
         reasons = found[4]
         needless = [reason for lot in by_rank(PAIR, self.PRICES) for reason in self.all_reasons(lot)]
-        for wrong in [reasons[1:], reasons[:-1], reasons + reasons, reasons[:1] + reasons, (), list(reasons), None, 0] + [
+        for wrong in [reasons[1:], reasons[:-1], reasons + reasons, reasons[:1] + reasons, (), list(reasons), None,
+                0] + [
                 reasons + (one,) for one in needless]:
             self.judged((*found[:4], wrong), False)
 
@@ -338,7 +347,8 @@ class Judged(unittest.TestCase):
     def test_every_value(self):
         found = self.paper()
         self.judged(found, True)
-        for value in ODD + ((), found[:4], list(found), found + found, ("lot",) + found, ("none",), ("none", None), "none"):
+        for value in ODD + ((), found[:4], list(found), found + found, ("lot",) + found, ("none",), ("none", None),
+                "none"):
             self.judged(value, False)
             for at in range(5):
                 self.judged(found[:at] + (value,) + found[at + 1:], value == () == found[at])
@@ -355,15 +365,18 @@ class Excludes(unittest.TestCase):
                     self.assertIs(excludes(("unheard", lot, None, shown), other), is_as_loose(one, two))
                     self.assertIs(excludes(("heard", lot, ("a", "b"), shown), other), is_as_loose(two, one))
         lot, strict = (("p", OPEN), ("q", STRICT)), (("p", STRICT), ("q", STRICT))
-        self.assertEqual([excludes(("heard", lot, 0, 0), strict), excludes(("heard", strict, 0, 0), lot)], [False, True])
-        self.assertEqual([excludes(("unheard", lot, 0, 0), strict), excludes(("unheard", strict, 0, 0), lot)], [True, False])
+        self.assertEqual([excludes(("heard", lot, 0, 0), strict), excludes(("heard", strict, 0, 0), lot)],
+            [False, True])
+        self.assertEqual([excludes(("unheard", lot, 0, 0), strict), excludes(("unheard", strict, 0, 0), lot)],
+            [True, False])
         cross = (("p", STRICT), ("q", OPEN))
         for word in ("heard", "unheard"):
             self.assertEqual([excludes((word, lot, 0, 0), cross), excludes((word, cross, 0, 0), lot)], [False, False])
 
     def test_errors(self):
         lot = (("p", OPEN),)
-        for reason in ODD + (("heard", lot, 0), ("heard", lot, 0, 0, 0), ["heard", lot, 0, 0], ("lot", lot, 0, 0), (0, lot, 0, 0),
+        for reason in ODD + (("heard", lot, 0), ("heard", lot, 0, 0, 0), ["heard", lot, 0, 0], ("lot", lot, 0, 0),
+                (0, lot, 0, 0),
                              (["heard"], lot, 0, 0), ("Heard", lot, 0, 0), (lot, "heard", 0, 0)):
             refused(self, InvalidOperation, excludes, reason, lot)
         for value in NO_LOTS + ((("q", OPEN),), (("p", OPEN), ("q", OPEN))):

@@ -16,6 +16,7 @@ from lentdoors.texts.reading import read_net, read_talk
 from lentdoors.texts.writing import net_text, talk_text
 from samples import CITY, DEEP, KINDS, MEET, ODD, PAIR, STRICT, TIGHT, random_net, random_nets
 from test_hearing import pairs
+from test_relations import random_talk
 from test_sorts import refused
 
 NEW = "new x " + net_text(PAIR).replace("\n", "; ")
@@ -38,14 +39,15 @@ def outcome(call, *arguments):
 
 
 class Model:
-    """A desk by the words of the document: works are pairs of a net and a talk, and all works are kept for each change."""
+    """A desk by the words of the document; works are pairs of a net and a talk."""
 
     def __init__(self):
         self.works, self.past, self.ahead = {}, [], []
 
     def run(self, line):
         words = line.split(" ") if isinstance(line, str) else []
-        many = {"new": 3, "copy": 3, "drop": 2, "kind": 6, "box": 7, "host": 4, "teller": 3, "known": 4, "twin": 4, "send": 3,
+        many = {"new": 3, "copy": 3, "drop": 2, "kind": 6, "box": 7, "host": 4, "teller": 3, "known": 4, "twin": 4,
+            "send": 3,
                 "back": 2, "reach": 4, "show": 2, "talk": 2, "heard": 3, "hears": 4, "undo": 1, "redo": 1}
         if not words or "\n" in line or "" in words or words[0] not in many:
             raise InvalidCommand("")
@@ -148,11 +150,14 @@ def some_line(chance, desk):
     drawn = random_net(chance, boxes=chance.randint(0, 2), hosts=chance.randint(1, 3))
     return pick((
         f"new {pick('xyzuvwrst')} " + net_text(pick((drawn, PAIR, TIGHT, CITY))).replace("\n", "; "),
-        f"new {work} host a in open; host b in p", f"copy {work} {pick('xyzuvwrst')}", f"drop {work}", f"kind {work} {box} {kind}",
-        f"kind {work} {box} source any never", f"box {work} {pick('pqrs')} {area} {kind}", f"host {work} {pick('abcdq')} {area}",
+        f"new {work} host a in open; host b in p", f"copy {work} {pick('xyzuvwrst')}", f"drop {work}",
+        f"kind {work} {box} {kind}",
+        f"kind {work} {box} source any never", f"box {work} {pick('pqrs')} {area} {kind}",
+        f"host {work} {pick('abcdq')} {area}",
         f"teller {work} {host[0]}", f"known {work} {host[0]} {host[1]}", f"twin {work} {host[0]} {pick('abcdeq')}",
         *[f"send {work} {pick(list(net))} to {door}"] * 3, f"send {work} {host[0]} to {door}", f"back {work}",
-        f"reach {work} {host[0]} {host[1]}", f"show {work}", f"talk {work}", f"heard {work} {host[0]}", f"hears {work} {host[0]} {host[1]}",
+        f"reach {work} {host[0]} {host[1]}", f"show {work}", f"talk {work}", f"heard {work} {host[0]}",
+        f"hears {work} {host[0]} {host[1]}",
         *["undo", "redo"] * 3,
     ))
 
@@ -181,7 +186,8 @@ class AgainstTheWords(unittest.TestCase):
             again = Desk()
             again.run_all(*desk.script())
             self.assertEqual([again, again.script()], [desk, desk.script()])
-        for word in ("new", "copy", "drop", "kind", "box", "host", "teller", "known", "twin", "send", "back", "reach", "show", "talk",
+        for word in ("new", "copy", "drop", "kind", "box", "host", "teller", "known", "twin", "send", "back", "reach",
+                "show", "talk",
                      "heard", "hears", "undo", "redo"):
             self.assertIn((word, "done"), seen)
             self.assertGreater(len([one for one in seen if one[0] == word]), 1, word)
@@ -216,7 +222,8 @@ class Changes(unittest.TestCase):
 
     def test_copy_and_drop(self):
         self.assertEqual(self.desk.run("copy x z"), "net of 3 hosts, 2 boxes")
-        self.assertEqual([self.desk.net_of("z"), self.desk.talk_of("z")], [self.desk.net_of("x"), self.desk.talk_of("x")])
+        self.assertEqual([self.desk.net_of("z"), self.desk.talk_of("z")],
+            [self.desk.net_of("x"), self.desk.talk_of("x")])
         self.desk.run("send z help to #1")
         self.assertEqual([len(self.desk.talk_of(name)) for name in "xyz"], [3, 1, 4])
         self.assertEqual(self.desk.run("drop x"), "desk with 2 works")
@@ -230,8 +237,10 @@ class Changes(unittest.TestCase):
             ("kind x left source any lent", "with_kind", ("left", ("source", "any", "lent"))),
             ("kind x left source any lent", "with_kind", ("left", ("source", "any", "lent"))),
             ("box x z left door door inner", "with_box", ("z", "left", ("door", "door", "inner"))),
-            ("host x c z", "with_host", ("c", "z")), ("teller x a", "with_teller", ("a",)), ("teller x help", "with_teller", ("help",)),
-            ("known x c a", "with_known", ("c", "a")), ("known x a help", "with_known", ("a", "help")), ("twin x help d", "with_twin", ("help", "d")),
+            ("host x c z", "with_host", ("c", "z")), ("teller x a", "with_teller", ("a",)),
+            ("teller x help", "with_teller", ("help",)),
+            ("known x c a", "with_known", ("c", "a")), ("known x a help", "with_known", ("a", "help")),
+            ("twin x help d", "with_twin", ("help", "d")),
         ):
             net = getattr(net, name)(*arguments)
             self.run_one(line, str(net), net=net)
@@ -239,7 +248,8 @@ class Changes(unittest.TestCase):
     def test_messages(self):
         talk = Talk.of(MEET.messages()[:3])
         for line, reply in (
-            ("a to #1", "lost"), ("help to #1", "heard by b"), ("b to #0", "heard by a"), ("a to help", "heard by help"),
+            ("a to #1", "lost"), ("help to #1", "heard by b"), ("b to #0", "heard by a"),
+            ("a to help", "heard by help"),
             ("a to a", "heard by a"), ("help to #6", "heard by a"),
         ):
             talk = read_talk(talk_text(talk) + "\n" + line)
@@ -274,7 +284,8 @@ class Changes(unittest.TestCase):
                 self.assertEqual(reply, "heard" if hears(net, host, other) else "never")
                 added = desk.talk_of("w").messages()[len(before):]
                 if added:
-                    places = [(sender, (word, what - len(before) if word == "shown" else what)) for sender, (word, what) in added]
+                    places = [(sender, (word, what - len(before) if word == "shown" else what)) for sender,
+                        (word, what) in added]
                     self.assertIs(is_hearing_paper(net, host, other, ("talk", Talk.of(tuple(places)))), True)
                     many += len(before) > 0
                 self.assertEqual(added != (), reply == "heard" and other not in heard)
@@ -284,8 +295,10 @@ class Changes(unittest.TestCase):
     def test_questions(self):
         state = self.desk.script()
         for line, reply in (
-            ("show x", net_text(PAIR).replace("\n", "; ")), ("talk x", "a to help; b to help; help to #0"), ("talk y", "a to help"),
-            ("heard x a", "help"), ("heard x help", "a b"), ("heard x b", "nobody"), ("hears x a b", "yes"), ("hears y b help", "yes"),
+            ("show x", net_text(PAIR).replace("\n", "; ")), ("talk x", "a to help; b to help; help to #0"),
+            ("talk y", "a to help"),
+            ("heard x a", "help"), ("heard x help", "a b"), ("heard x b", "nobody"), ("hears x a b", "yes"),
+            ("hears y b help", "yes"),
         ):
             for _ in range(2):
                 self.assertEqual(self.desk.run(line), reply)
@@ -309,16 +322,18 @@ class Changes(unittest.TestCase):
                     self.assertEqual(desk.run(line), str(now))
                 self.assertEqual([desk.talk_of("w"), fits(desk.net_of("w"), talk)], [talk, True])
             free = "defghi"[:6 - len(net)]
-            self.assertEqual([desk.run(f"twin w a {name}") for name in free], [f"net of {at + 4} hosts, 3 boxes" for at in range(3)])
+            self.assertEqual([desk.run(f"twin w a {name}") for name in free],
+                [f"net of {at + 4} hosts, 3 boxes" for at in range(3)])
             self.assertIs(fits(desk.net_of("w"), talk), True)
 
     def test_changes_of_nets_that_talks_fit_or_not(self):
         chance, seen = random.Random(7), set()
-        for net in random_nets(705, 40, boxes=2, hosts=3) + 3 * [PAIR, CITY]:
+        loose = [kind for kind in KINDS if kind[1] == "any"]
+        for net in random_nets(705, 40, boxes=2, hosts=5, choice=loose) + 3 * [PAIR, CITY]:
             desk = Desk()
             desk.run("new w " + net_text(net).replace("\n", "; "))
-            for host, other in pairs(net):
-                desk.run(f"reach w {host} {other}")
+            for line in talk_text(random_talk(chance, net, 150)).split("\n"):
+                desk.run(f"send w {line}")
             for _ in range(12):
                 box, kind = chance.choice(list(net.boxes)), chance.choice(KINDS)
                 before, talk, script = desk.net_of("w"), desk.talk_of("w"), desk.script()
@@ -333,8 +348,8 @@ class Changes(unittest.TestCase):
     def test_a_talk_that_does_not_fit_the_new_net(self):
         desk = Desk()
         desk.run_all(
-            "new w box p in open source any never; host a in p; host b in open teller; host c in open teller; known a b; "
-            "known b c; known c b", "send w a to b", "send w b to c", "send w c to #0", "send w a to #2",
+            "new w box p in open source any never; host a in p; host b in open teller; host c in open teller; "
+            "known a b; known b c; known c b", "send w a to b", "send w b to c", "send w c to #0", "send w a to #2",
         )
         self.assertEqual(desk.run("heard w a"), "c")
         before = [desk.net_of("w"), desk.talk_of("w"), desk.script()]
@@ -351,28 +366,39 @@ class Errors(unittest.TestCase):
 
     def check(self, line, *expected):
         """Run a line that raises this error and changes nothing."""
-        before = [self.desk.works(), self.desk.script(), outcome(self.desk.run, "show x"), outcome(self.desk.run, "talk x")]
+        before = [self.desk.works(), self.desk.script(), outcome(self.desk.run, "show x"),
+            outcome(self.desk.run, "talk x")]
         self.assertEqual(outcome(self.desk.run, line), expected, line)
         self.assertEqual(outcome(self.desk.run_all, line), expected, line)
-        after = [self.desk.works(), self.desk.script(), outcome(self.desk.run, "show x"), outcome(self.desk.run, "talk x")]
+        after = [self.desk.works(), self.desk.script(), outcome(self.desk.run, "show x"),
+            outcome(self.desk.run, "talk x")]
         self.assertEqual(before, after)
 
     def test_no_commands(self):
         for line in ODD + (
-            "new", "new x", "copy", "copy x", "copy x y z", "drop", "drop x y", "kind x left source any", "kind x left source any never lent", "kind",
-            "box x z open source any", "box x z open source any never lent", "box", "host x z", "host x z open teller", "teller x", "teller x a b",
-            "known x a", "known x a help b", "twin x a", "twin x a z b", "send", "send x", "back", "back x 1", "reach x a", "reach x a b c", "show",
-            "show x x", "talk", "talk x x", "heard x", "heard x a b", "hears x a", "hears x a b c", "undo x", "redo x", "undo 1", "redo redo",
-            " undo", "undo ", "undo\n", "\nundo", "show  x", "show x ", " show x", "show\nx", "Show x", "SHOW x", "shows x", "x", "x show", "", " ", "  ",
-            "\n", "new Y host a in open", "new abcdefghi host a in open", "new 1 host a in open", "copy x Y", "copy z Y", "copy x abcdefghi", "copy x 1",
-            "send x a to  b", "new y host a in open;\nhost b in open", "new y  host a in open", "new y host a in open ", "quit", "len", "undo;",
+            "new", "new x", "copy", "copy x", "copy x y z", "drop", "drop x y", "kind x left source any",
+            "kind x left source any never lent", "kind",
+            "box x z open source any", "box x z open source any never lent", "box", "host x z", "host x z open teller",
+            "teller x", "teller x a b",
+            "known x a", "known x a help b", "twin x a", "twin x a z b", "send", "send x", "back", "back x 1",
+            "reach x a", "reach x a b c", "show",
+            "show x x", "talk", "talk x x", "heard x", "heard x a b", "hears x a", "hears x a b c", "undo x", "redo x",
+            "undo 1", "redo redo",
+            " undo", "undo ", "undo\n", "\nundo", "show  x", "show x ", " show x", "show\nx", "Show x", "SHOW x",
+            "shows x", "x", "x show", "", " ", "  ",
+            "\n", "new Y host a in open", "new abcdefghi host a in open", "new 1 host a in open", "copy x Y",
+            "copy z Y", "copy x abcdefghi", "copy x 1",
+            "send x a to  b", "new y host a in open;\nhost b in open", "new y  host a in open",
+            "new y host a in open ", "quit", "len", "undo;",
             "run show x", ["undo"], ("undo",), {"undo": 1},
         ):
             self.check(line, "InvalidCommand")
 
     def test_unknown_works(self):
-        for rest in ("copy {} y", "copy {} x", "drop {}", "kind {} left source any never", "kind {} q a b c", "box {} z open door door lent", "host {} z open",
-                     "teller {} a", "known {} a help", "twin {} a z", "send {} a to help", "send {} bad", "back {}", "reach {} a b", "show {}",
+        for rest in ("copy {} y", "copy {} x", "drop {}", "kind {} left source any never", "kind {} q a b c",
+                "box {} z open door door lent", "host {} z open",
+                     "teller {} a", "known {} a help", "twin {} a z", "send {} a to help", "send {} bad", "back {}",
+                     "reach {} a b", "show {}",
                      "talk {}", "heard {} a", "hears {} a b", "hears {} a a"):
             for work in ("y", "X", "left", "a", "1", "abcdefghi", "#0", "open", "None"):
                 self.check(rest.format(work), "UnknownName", work)
@@ -389,34 +415,51 @@ class Errors(unittest.TestCase):
 
     def test_wrong_texts_of_nets(self):
         for text, line in (
-            ("bad", 0), ("host a in open; bad", 1), ("host a in open; host a in open", 1), ("host a in p", 1), ("host a in open;", 0),
-            ("; host a in open", 0), ("host a in open;host b in open", 0), ("host a in open; ; host b in open", 1), ("host a in open; host b in p", 2),
+            ("bad", 0), ("host a in open; bad", 1), ("host a in open; host a in open", 1), ("host a in p", 1),
+            ("host a in open;", 0),
+            ("; host a in open", 0), ("host a in open;host b in open", 0), ("host a in open; ; host b in open", 1),
+            ("host a in open; host b in p", 2),
             (";", 0), ("host a in open ; host b in open", 0), ("show x", 0), ("box p in open source any never", 1),
         ):
             self.check(f"new y {text}", "ParseError", line)
 
     def test_wrong_messages(self):
-        for text in ("a", "a to", "a to b c", "A to b", "a to B", "a to #6", "a to #7", "a to #" + "9" * 5000, "a to #01", "a to #-1", "a to #", "a at b",
-                     "a to b; b to a", "a to #0;", "abcdefghi to a", "a to abcdefghi", "to a to", "#0 to a", "x a to b"):
+        for text in ("a", "a to", "a to b c", "A to b", "a to B", "a to #6", "a to #7", "a to #" + "9" * 5000,
+                "a to #01", "a to #-1", "a to #", "a at b",
+                     "a to b; b to a", "a to #0;", "abcdefghi to a", "a to abcdefghi", "to a to", "#0 to a",
+                     "x a to b"):
             self.check(f"send x {text}", "ParseError", 0)
-        for line in ("send x a to b", "send x z to help", "send x a to z", "send x left to help", "send x a to left", "send x help to #3",
+        for line in ("send x a to b", "send x z to help", "send x a to z", "send x left to help", "send x a to left",
+                "send x help to #3",
                      "send x a to open", "send x open to a", "send x z to z"):
             self.check(line, "InvalidOperation")
 
     def test_errors_of_the_functions(self):
         for line, *expected in (
-            ("kind x z source any never", "UnknownName", "z"), ("kind x a source any never", "UnknownName", "a"), ("kind x z a b c", "UnknownName", "z"),
-            ("kind x left any source never", "InvalidKind"), ("kind x left source any Never", "InvalidKind"), ("box x z q a b c", "UnknownName", "q"),
-            ("box x z a source any never", "UnknownName", "a"), ("box x Z open a b c", "InvalidKind"), ("box x Z open source any never", "InvalidOperation"),
-            ("box x a open source any never", "InvalidOperation"), ("box x left open source any never", "InvalidOperation"),
-            ("host x z q", "UnknownName", "q"), ("host x z a", "UnknownName", "a"), ("host x a q", "UnknownName", "q"), ("host x a open", "InvalidOperation"),
-            ("host x Z open", "InvalidOperation"), ("host x open open", "InvalidOperation"), ("host x left open", "InvalidOperation"),
-            ("teller x z", "UnknownName", "z"), ("teller x left", "UnknownName", "left"), ("known x z y", "UnknownName", "z"),
-            ("known x a y", "UnknownName", "y"), ("known x a a", "InvalidOperation"), ("known x a b", "InvalidOperation"),
-            ("twin x z Z", "UnknownName", "z"), ("twin x a Z", "InvalidOperation"), ("twin x a b", "InvalidOperation"), ("twin x a open", "InvalidOperation"),
-            ("reach x z y", "UnknownName", "z"), ("reach x a y", "UnknownName", "y"), ("reach x left left", "UnknownName", "left"),
-            ("reach x a a", "InvalidOperation"), ("heard x z", "UnknownName", "z"), ("heard x left", "UnknownName", "left"),
-            ("hears x z y", "UnknownName", "z"), ("hears x a y", "UnknownName", "y"), ("hears x a a", "InvalidOperation"),
+            ("kind x z source any never", "UnknownName", "z"), ("kind x a source any never", "UnknownName", "a"),
+            ("kind x z a b c", "UnknownName", "z"),
+            ("kind x left any source never", "InvalidKind"), ("kind x left source any Never", "InvalidKind"),
+            ("box x z q a b c", "UnknownName", "q"),
+            ("box x z a source any never", "UnknownName", "a"), ("box x Z open a b c", "InvalidKind"),
+            ("box x Z open source any never", "InvalidOperation"),
+            ("box x a open source any never", "InvalidOperation"), ("box x left open source any never",
+            "InvalidOperation"),
+            ("host x z q", "UnknownName", "q"), ("host x z a", "UnknownName", "a"), ("host x a q", "UnknownName", "q"),
+            ("host x a open", "InvalidOperation"),
+            ("host x Z open", "InvalidOperation"), ("host x open open", "InvalidOperation"),
+            ("host x left open", "InvalidOperation"),
+            ("teller x z", "UnknownName", "z"), ("teller x left", "UnknownName", "left"),
+            ("known x z y", "UnknownName", "z"),
+            ("known x a y", "UnknownName", "y"), ("known x a a", "InvalidOperation"),
+            ("known x a b", "InvalidOperation"),
+            ("twin x z Z", "UnknownName", "z"), ("twin x a Z", "InvalidOperation"), ("twin x a b", "InvalidOperation"),
+            ("twin x a open", "InvalidOperation"),
+            ("reach x z y", "UnknownName", "z"), ("reach x a y", "UnknownName", "y"),
+            ("reach x left left", "UnknownName", "left"),
+            ("reach x a a", "InvalidOperation"), ("heard x z", "UnknownName", "z"),
+            ("heard x left", "UnknownName", "left"),
+            ("hears x z y", "UnknownName", "z"), ("hears x a y", "UnknownName", "y"),
+            ("hears x a a", "InvalidOperation"),
         ):
             self.check(line, *expected)
 
@@ -466,9 +509,11 @@ class Errors(unittest.TestCase):
         desk.run_all(NEW, *["teller x a"] * 199)
         state = desk.script()
         self.assertEqual(len(state), 200)
-        for line in ("teller x a", "send x a to help", "drop x", "copy x y", "new y host a in open", "reach x a b", "kind x left source any never"):
+        for line in ("teller x a", "send x a to help", "drop x", "copy x y", "new y host a in open", "reach x a b",
+                "kind x left source any never"):
             self.assertEqual(outcome(desk.run, line), ("TooMany", 200))
-        for line, *expected in (("back x", "NothingToUndo", 1), ("send x a to b", "InvalidOperation"), ("teller x z", "UnknownName", "z"), ("new x bad", "InvalidOperation"),
+        for line, *expected in (("back x", "NothingToUndo", 1), ("send x a to b", "InvalidOperation"),
+                ("teller x z", "UnknownName", "z"), ("new x bad", "InvalidOperation"),
                                 ("redo", "NothingToUndo", 1), ("new y bad", "ParseError", 0)):
             self.assertEqual(outcome(desk.run, line), tuple(expected))
         self.assertEqual([desk.run("hears x a b"), desk.script()], ["yes", state])
@@ -477,7 +522,8 @@ class Errors(unittest.TestCase):
         self.assertEqual(outcome(desk.run, "teller x a"), ("TooMany", 200))
         full = Desk()
         full.run_all(*["new " + name + " host a in open" for name in "abcdefgh"], *["teller a a"] * 192)
-        self.assertEqual([outcome(full.run, "new i host a in open"), outcome(full.run, "copy a i")], [("TooMany", 8)] * 2)
+        self.assertEqual([outcome(full.run, "new i host a in open"), outcome(full.run, "copy a i")],
+            [("TooMany", 8)] * 2)
         for many in range(200):
             self.assertEqual(desk.run("undo"), f"desk with {int(many < 199)} works")
         self.assertEqual(outcome(desk.run, "undo"), ("NothingToUndo", 1))
@@ -489,7 +535,8 @@ class Errors(unittest.TestCase):
 
 class Undone(unittest.TestCase):
     def test_behind_each_kind_of_change(self):
-        lines = [NEW, "copy x y", "kind x left source any never", "box x z open door door lent", "host x c z", "teller x c", "known x c help",
+        lines = [NEW, "copy x y", "kind x left source any never", "box x z open door door lent", "host x c z",
+            "teller x c", "known x c help",
                  "twin x c d", *TALK, "back x", "reach x a b", "reach y a b", "drop y"]
         states, desk = [Desk()], Desk()
         for line in lines:
@@ -507,7 +554,8 @@ class Undone(unittest.TestCase):
     def test_behind_errors_and_questions(self):
         desk = Desk()
         desk.run_all(NEW, "send x a to help", "undo")
-        for line in ("show x", "talk x", "heard x a", "hears x a b", "send x a to b", "bad", "drop y", "back x", "new x host a in open"):
+        for line in ("show x", "talk x", "heard x a", "hears x a b", "send x a to b", "bad", "drop y", "back x",
+                "new x host a in open"):
             outcome(desk.run, line)
         self.assertEqual([desk.run("redo"), desk.run("talk x")], ["desk with 1 works", "a to help"])
         outcome(desk.run, "send x a to b")
@@ -523,6 +571,15 @@ class Undone(unittest.TestCase):
         desk = Desk()
         desk.run_all(NEW, "teller x help", "undo", "teller x help")
         self.assertEqual([outcome(desk.run, "redo"), desk.script()], [("NothingToUndo", 1), (NEW, "teller x help")])
+
+    def test_works_with_the_names_of_commands(self):
+        desk = Desk()
+        desk.run_all("new undo host a in open", "copy undo redo", "teller redo a", "send undo a to a", "drop undo")
+        self.assertEqual([desk.works(), len(desk.script())], [("redo",), 5])
+        self.assertEqual([desk.run("show redo"), desk.run("talk redo")], ["host a in open teller", ""])
+        desk.run_all("undo", "copy undo new", "new show host send in open", "send show send to send",
+            "twin show send undo")
+        self.assertEqual(desk.run("talk show"), "send to send")
 
     def test_undo_is_no_change(self):
         desk = Desk()
@@ -542,12 +599,14 @@ class AllLines(unittest.TestCase):
         self.assertEqual([one, one.script()], [other, other.script()])
 
     def test_an_error_changes_nothing(self):
-        for bad, *expected in (("bad", "InvalidCommand"), ("back y", "UnknownName", "y"), ("send x a to b", "InvalidOperation"), ("new z bad", "ParseError", 0),
+        for bad, *expected in (("bad", "InvalidCommand"), ("back y", "UnknownName", "y"),
+                ("send x a to b", "InvalidOperation"), ("new z bad", "ParseError", 0),
                                (None, "InvalidCommand"), ("kind x left a b c", "InvalidKind")):
             desk, same = Desk(), Desk()
             for one in (desk, same):
                 one.run_all(NEW, *TALK[:3], "undo", "undo")
-            for lines in ((bad,), ("undo", bad), ("redo", bad), ("send x b to help", bad, "drop x"), ("teller x b", "undo", bad),
+            for lines in ((bad,), ("undo", bad), ("redo", bad), ("send x b to help", bad, "drop x"),
+                    ("teller x b", "undo", bad),
                           ("copy x w", "teller w a", "undo", bad)):
                 self.assertEqual(outcome(desk.run_all, *lines), tuple(expected))
                 self.assertEqual([desk, desk.script()], [same, same.script()])
@@ -597,7 +656,8 @@ class Desks(unittest.TestCase):
         desk.run_all(NEW, *TALK)
         live = desk.live_of("x")
         self.assertEqual(live, carried(PAIR, MEET))
-        self.assertEqual([live.box("left"), live.box("right")], [carried(PAIR, MEET).box("left"), carried(PAIR, MEET).box("right")])
+        self.assertEqual([live.box("left"), live.box("right")], [carried(PAIR, MEET).box("left"),
+            carried(PAIR, MEET).box("right")])
         live.back(many=6)
         live.send("a", ("help", 0))
         self.assertEqual([desk.live_of("x"), desk.run("heard x a")], [carried(PAIR, MEET), "b help"])
@@ -651,8 +711,10 @@ class Quick(unittest.TestCase):
             lines = ["new w " + net_text(net).replace("\n", "; "), "copy w v"]
             lines.extend([f"reach w {host} {other}" for host, other in pairs(net)])
             lines.extend([f"hears v {host} {other}" for host, other in pairs(net)])
-            lines.extend(["kind w p source any never", "teller w a", "host w e open", "twin w a f", "show w", "talk w", "heard w a"])
-            lines.extend(["send w a to a"] * (200 - len([line for line in lines if line.split(" ")[0] not in ("hears", "show", "talk", "heard")])))
+            lines.extend(["kind w p source any never", "teller w a", "host w e open", "twin w a f", "show w", "talk w",
+                "heard w a"])
+            lines.extend(["send w a to a"] * (200 - len([line for line in lines if line.split(" ")[0] not in ("hears",
+                "show", "talk", "heard")])))
             lines.extend(["undo"] * 200 + ["redo"] * 200)
             for line in lines:
                 start = time.perf_counter()
@@ -670,7 +732,8 @@ class Deep(unittest.TestCase):
         desk.run("new deep " + net_text(DEEP).replace("\n", "; "))
         for host, other in pairs(DEEP):
             reply = desk.run(f"reach deep {host} {other}")
-            self.assertEqual([reply, desk.run(f"hears deep {host} {other}")], [reply, "yes" if reply == "heard" else "no"])
+            self.assertEqual([reply, desk.run(f"hears deep {host} {other}")],
+                [reply, "yes" if reply == "heard" else "no"])
         self.assertEqual(desk.talk_of("deep"), read_talk(desk.run("talk deep").replace("; ", "\n")))
         self.assertEqual(hearers(DEEP, desk.talk_of("deep")), tuple([entry[3] for entry in desk.live_of("deep").log()]))
 

@@ -228,7 +228,8 @@ class Judged(unittest.TestCase):
         found = help_paper(BARE, HELPS, WISH)
         for side in (0, 1):
             rows = found[side]
-            for one in (rows[1:], rows[:-1], rows[:1] + rows, rows + rows[-1:], rows[::-1], (), list(rows), rows + (None,)):
+            for one in (rows[1:], rows[:-1], rows[:1] + rows, rows + rows[-1:], rows[::-1], (), list(rows),
+                    rows + (None,)):
                 self.judged((one, found[1]) if side == 0 else (found[0], one), False)
 
     def test_other_subsets(self):
@@ -253,7 +254,8 @@ class Judged(unittest.TestCase):
         for wrong in ((), talks + talks, list(talks), talks[0], (None,), (Talk(),), (MEET.messages(),), None,
                       (talks[0] + Talk(("a", ("own", "a"))),), (Talk(("a", ("own", "help"))),)):
             self.judged(self.changed(0, (subset, wrong)), False)
-        for wrong in (None, {}, {**table, "a": ()}, full_table(BARE), least_table(with_all(BARE, HELPS)), tuple(table), MEET):
+        for wrong in (None, {}, {**table, "a": ()}, full_table(BARE), least_table(with_all(BARE, HELPS)), tuple(table),
+                MEET):
             self.judged(self.changed(1, (lacking, wish, wrong)), False)
         for wrong in (None, ("b", "a"), wish + wish, list(wish), "a", ("a", "z"), ("help", "aid")):
             self.judged(self.changed(1, (lacking, wrong, table)), False)

@@ -129,7 +129,8 @@ METHODS = set((
 ITERATED_AT_ONCE = ("range", "zip", "enumerate", "reversed", "map")
 ITERATING = ("list", "tuple", "dict", "sorted", "sum", "any", "all", "min", "max", "enumerate", "zip", "len")
 OPERATORS = (
-    "__add__", "__contains__", "__eq__", "__getitem__", "__iter__", "__len__", "__mul__", "__repr__", "__str__", "__sub__",
+    "__add__", "__contains__", "__eq__", "__getitem__", "__iter__", "__len__", "__mul__", "__repr__", "__str__",
+    "__sub__",
 )
 BARRED = re.compile(
     r"\b(typing|typing_extensions|enum|Enum|IntEnum|StrEnum|Flag|IntFlag|Generic|Protocol|ABC|ABCMeta|namedtuple"
@@ -327,7 +328,8 @@ class Rules(unittest.TestCase):
             for node in ast.walk(tree):
                 if isinstance(node, ast.FunctionDef) and node.name in OPERATORS:
                     stored = [part for part in ast.walk(node) if isinstance(getattr(part, "ctx", None), ast.Store)]
-                    self.assertEqual([part.lineno for part in stored if not isinstance(part, (ast.Name, ast.Tuple))], [], name)
+                    self.assertEqual([part.lineno for part in stored if not isinstance(part, (ast.Name, ast.Tuple))],
+                        [], name)
 
 
 if __name__ == "__main__":

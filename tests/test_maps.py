@@ -220,12 +220,14 @@ class Rules(unittest.TestCase):
         good = (SAME, {"left": "left", "right": "right"})
         self.assertIs(is_map(TIGHT, PAIR, good), True)
         for hosts in ODD + ({**SAME, "z": "a"}, {"a": "a", "b": "b"}, {**SAME, "a": "left"}, {**SAME, "a": None},
-                            {**SAME, "a": ["a"]}, {**SAME, "a": "open"}, tuple(SAME), {}, {**SAME, "a": PAIR}):
+                            {**SAME, "a": ["a"]}, {**SAME, "a": "open"}, tuple(SAME), {}, {**SAME, "a": PAIR},
+                            {"a": "a", "b": "b", "z": "help"}, {"a": "a", "b": "b", None: "help"}):
             self.assertIs(is_map(TIGHT, PAIR, (hosts, good[1])), False)
             refused(self, InvalidMap, NetMap, TIGHT, PAIR, hosts)
             refused(self, InvalidMap, NetMap, TIGHT, PAIR, hosts, boxes=good[1])
         for boxes in ODD + ({**good[1], "z": None}, {"left": "left"}, {**good[1], "left": "open"}, {"a": "a"},
-                            {**good[1], "left": "a"}, {**good[1], "left": ["left"]}, {**good[1], "left": False}):
+                            {**good[1], "left": "a"}, {**good[1], "left": ["left"]}, {**good[1], "left": False}, {"left": "left", "a": "a"},
+                            {"left": None, "help": None}):
             self.assertIs(is_map(TIGHT, PAIR, (SAME, boxes)), False)
             if boxes is not None:
                 refused(self, InvalidMap, NetMap, TIGHT, PAIR, SAME, boxes=boxes)

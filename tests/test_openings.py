@@ -23,8 +23,10 @@ NO_WISHES = tuple([(value,) for value in ODD]) + (
     (("b", "a"), ("a", "b")), (("a", "b"), ("a", "b")), (("a", "b"), None), ((("a", "b"),),),
 )
 NO_LOTS = ODD + (
-    OPEN, ("left", OPEN), (("left",),), ((("left", OPEN),),), [("left", OPEN)], (["left", OPEN],), (("left", list(OPEN)),),
+    OPEN, ("left", OPEN), (("left",),), ((("left", OPEN),),), [("left", OPEN)], (["left", OPEN],),
+    (("left", list(OPEN)),),
     (("left", OPEN, OPEN),), (("left", OPEN), ("left", STRICT)), (("right", OPEN), ("left", OPEN)), (("Left", OPEN),),
+    (("left", OPEN), None), (("left", OPEN), ("right",)), (("left", OPEN), ("right", "y")), (None, ("left", OPEN)),
     (("left", OPEN), ("left", OPEN)), (("left", OPEN[:2]),), ((OPEN, "left"),), (("open", OPEN),),
     tuple([(box, OPEN) for box in ("l", "m", "n", "o")]),
 )
@@ -36,7 +38,8 @@ def is_looser_lot(lot, other):
 
 def all_lots(offer):
     """All lots of an offer, ascending."""
-    return sorted([tuple(zip(sorted(offer), choice)) for choice in itertools.product(*[offer[box] for box in sorted(offer)])])
+    return sorted([tuple(zip(sorted(offer), choice))
+        for choice in itertools.product(*[offer[box] for box in sorted(offer)])])
 
 
 def does(net, lot, wishes):
@@ -67,7 +70,8 @@ class Fulfils(unittest.TestCase):
         self.assertEqual(found, {(0, True), *itertools.product((1, 2, 3), (True, False))})
 
     def test_examples(self):
-        self.assertEqual([fulfils(PAIR, *pairs(PAIR)), fulfils(TIGHT, *pairs(TIGHT)), fulfils(TIGHT)], [True, False, True])
+        self.assertEqual([fulfils(PAIR, *pairs(PAIR)), fulfils(TIGHT, *pairs(TIGHT)), fulfils(TIGHT)],
+            [True, False, True])
         self.assertIs(fulfils(TIGHT, ("a", "help"), ("help", "a")), True)
 
     def test_errors_in_their_order(self):
@@ -104,7 +108,8 @@ class Lots(unittest.TestCase):
         self.assertEqual(MAX_LOTS, 729)
         self.assertEqual(len(list(lots(PAIR, {"left": KINDS, "right": KINDS}))), 729)
         self.assertEqual(len(list(lots(THREE, {"left": NEVER, "right": NEVER, "mid": NEVER}))), 729)
-        for offer in ({"left": KINDS, "right": KINDS, "mid": KINDS[:2]}, {"left": NEVER, "right": NEVER, "mid": KINDS[:10]},
+        for offer in ({"left": KINDS, "right": KINDS, "mid": KINDS[:2]},
+                {"left": NEVER, "right": NEVER, "mid": KINDS[:10]},
                       {"left": KINDS, "right": KINDS, "mid": KINDS}):
             found = lots(THREE, offer)
             with self.assertRaises(TooMany) as caught:
@@ -125,7 +130,8 @@ class Lots(unittest.TestCase):
         for offer in ODD + (
             {}, {"left": ()}, {"left": list(NEVER)}, {"left": NEVER[::-1]}, {"left": (OPEN, OPEN)}, {"z": NEVER},
             {"open": NEVER}, {"a": NEVER}, {"left": OPEN}, {"left": (OPEN, "source")}, {**BOTH, "z": NEVER}, {0: NEVER},
-            {"left": NEVER, "right": None}, (("left", NEVER),), [("left", NEVER)], {("left",): NEVER}, {"left": {OPEN: 1}},
+            {"left": NEVER, "right": None}, (("left", NEVER),), [("left", NEVER)], {("left",): NEVER},
+            {"left": {OPEN: 1}},
         ):
             found = lots(PAIR, offer)
             refused(self, InvalidOperation, lambda: list(found))
@@ -144,7 +150,8 @@ class Lots(unittest.TestCase):
 
     def test_no_net(self):
         for value in NO_NETS:
-            for call in (lambda net: list(lots(net, None)), lambda net: net_of(net, None), lambda net: frontier(net, None),
+            for call in (lambda net: list(lots(net, None)), lambda net: net_of(net, None),
+                    lambda net: frontier(net, None),
                          lambda net: is_frontier(net, None, None)):
                 refused(self, InvalidNet, call, value)
 
@@ -200,7 +207,8 @@ class Frontiers(unittest.TestCase):
         self.check(CITY, BOTH, (("a", "b"), ("a", "c")))
 
     def test_turning(self):
-        net = Net({"p": ("open", STRICT)}, {"a": "p", "b": "p", "e": "open"}, tellers=("e",), known=(("a", "e"), ("b", "e")))
+        net = Net({"p": ("open", STRICT)}, {"a": "p", "b": "p", "e": "open"}, tellers=("e",),
+            known=(("a", "e"), ("b", "e")))
         found = self.check(net, {"p": KINDS}, (("a", "b"),))
         self.assertLessEqual({"lent", "inner"}, {lot[0][1][2] for lot, _ in found[0]})
 
@@ -245,7 +253,8 @@ class Judged(unittest.TestCase):
         found = frontier(PAIR, BOTH, *self.WISHES)
         for side in (0, 1):
             rows = found[side]
-            changed = [rows[1:], rows[:-1], rows[:1] + rows, rows + rows[-1:], rows[::-1], (rows[1], rows[0]) + rows[2:], (),
+            changed = [rows[1:], rows[:-1], rows[:1] + rows, rows + rows[-1:], rows[::-1],
+                (rows[1], rows[0]) + rows[2:], (),
                        list(rows), rows + (None,), dict(enumerate(rows)), None]
             for one in changed:
                 self.judged((one, found[1]) if side == 0 else (found[0], one), False)
@@ -257,7 +266,8 @@ class Judged(unittest.TestCase):
             if lot in done and lot not in [one for one, _ in strictest]:
                 row = (lot, tuple([hearing_paper(net_of(PAIR, lot), *wish)[1] for wish in self.WISHES]))
                 for at in range(len(strictest)):
-                    self.judged((tuple(sorted([*strictest[:at], row, *strictest[at + 1:]], key=lambda one: one[0])), loosest),
+                    self.judged((tuple(sorted([*strictest[:at], row, *strictest[at + 1:]], key=lambda one: one[0])),
+                        loosest),
                                 False)
                 self.judged((tuple(sorted([*strictest, row], key=lambda one: one[0])), loosest), False)
             if lot not in done and lot not in [one for one, _, _ in loosest]:
@@ -275,27 +285,32 @@ class Judged(unittest.TestCase):
     def test_other_talks(self):
         lot, talks = frontier(PAIR, BOTH, *self.WISHES)[0][0]
         for wrong in (
-            (), talks[:1], talks[::-1], talks + talks[:1], list(talks), None, (talks[0], None), (talks[0], Talk()), talks[0],
+            (), talks[:1], talks[::-1], talks + talks[:1], list(talks), None, (talks[0], None), (talks[0], Talk()),
+            talks[0],
             (talks[0], talks[1] + Talk(("help", ("own", "help")))), (talks[0], Talk(("a", ("own", "help")))),
             (talks[0].messages(), talks[1]), (Talk(("b", ("own", "a"))), talks[1]), {0: talks[0], 1: talks[1]},
         ):
             self.judged(self.changed(0, (lot, wrong)), False)
-        for row in ((lot,), (lot, talks, ()), [lot, talks], None, (lot[::-1], talks), (list(lot), talks), (lot[:1], talks)):
+        for row in ((lot,), (lot, talks, ()), [lot, talks], None, (lot[::-1], talks), (list(lot), talks),
+                (lot[:1], talks)):
             self.judged(self.changed(0, row), False)
         self.judged(self.changed(0, (lot, talks)), True)
 
     def test_other_tables(self):
         lot, wish, table = frontier(PAIR, BOTH, *self.WISHES)[1][0]
         for wrong in (
-            None, {}, {**table, "a": ()}, {**table, "a": list(table["a"])}, {**table, "z": ()}, full_table(net_of(PAIR, lot)),
+            None, {}, {**table, "a": ()}, {**table, "a": list(table["a"])}, {**table, "z": ()},
+            full_table(net_of(PAIR, lot)),
             MEET, least_table(PAIR), tuple(table.items()), {**table, "a": table["a"][::-1]},
         ):
             self.judged(self.changed(1, (lot, wish, wrong)), False)
         heard = [one for one in pairs(PAIR) if hears(net_of(PAIR, lot), *one)]
         unheard = [one for one in pairs(PAIR) if one not in heard]
-        for wrong in (*heard, None, wish[::-1] if wish[::-1] in heard else None, wish + wish, list(wish), "a", ("a", "z"), ()):
+        for wrong in (*heard, None, wish[::-1] if wish[::-1] in heard else None, wish + wish, list(wish), "a",
+                ("a", "z"), ()):
             self.judged(self.changed(1, (lot, wrong, table)), False)
-        for wrong in ((lot, wish), (lot, wish, table, ()), [lot, wish, table], (lot, table, wish), (lot[::-1], wish, table)):
+        for wrong in ((lot, wish), (lot, wish, table, ()), [lot, wish, table], (lot, table, wish),
+                (lot[::-1], wish, table)):
             self.judged(self.changed(1, wrong), False)
         for one in unheard:
             self.judged(self.changed(1, (lot, one, table)), one in self.WISHES)
@@ -340,7 +355,8 @@ class Decided(unittest.TestCase):
         found = self.rows([("p", ("source", "address", "never"))], [("p", ("address", "any", "never"))])
         for kind in KINDS:
             lot = (("p", kind),)
-            above, below = is_as_loose(kind, ("source", "address", "never")), is_as_loose(("address", "any", "never"), kind)
+            above, below = is_as_loose(kind, ("source", "address", "never")), is_as_loose(("address", "any", "never"),
+                kind)
             if above == below:
                 refused(self, InvalidOperation, decided, found, lot)
             else:
@@ -367,7 +383,8 @@ class Decided(unittest.TestCase):
     def test_no_frontiers_and_no_lots(self):
         lot = (("p", OPEN),)
         good = self.rows([("p", STRICT)], [])
-        for value in ODD + ((), good[:1], list(good), good + ((),), ([], ()), ((), []), (((lot,),), ()), (((lot, 0, 0),), ()),
+        for value in ODD + ((), good[:1], list(good), good + ((),), ([], ()), ((), []), (((lot,),), ()),
+                (((lot, 0, 0),), ()),
                             ((), ((lot, 0),)), ((), ((lot, 0, 0, 0),)), (([lot, 0],), ()), ((lot, 0), ()), ((0,), ())):
             if value != ((), ()):
                 refused(self, InvalidOperation, decided, value, lot)

@@ -14,7 +14,7 @@ from samples import BARE, CITY, DEEP, KINDS, LATE, NEVER, NO_NETS, ODD, PAIR, ST
 from test_hearing import pairs
 from test_sorts import STEPS, refused, unknown
 
-NETS = (PAIR, TIGHT, CITY, DEEP, LATE, STEPS, BARE, Net({}, {"a": "open"}))
+NETS = (PAIR, TIGHT, CITY, CITY.renamed({"a": "z"}), DEEP, LATE, STEPS, BARE, Net({}, {"a": "open"}))
 
 
 # Here a and b can hear each other, but each only by a door that is lent for a lent one.
@@ -119,6 +119,13 @@ class Bars(unittest.TestCase):
                 sizes.add(len(expected))
         self.assertLessEqual({0, 1, 2}, sizes)
 
+    def test_the_lending_counts_too(self):
+        # b lets a in only at the door to which it has sent, so the box of a has to show this door to b, too.
+        net = TIGHT.with_kind("right", ("source", "door", "never"))
+        self.assertEqual([Hearing(net).bars("b", "a"), Hearing(net).bars("a", "b")],
+            [("left", "right"), ("left", "right")])
+        self.assertIs(hears(net.with_kind("left", ("address", "any", "never")), "b", "a"), False)
+
     def test_the_turning_stays(self):
         net = Net({"p": ("open", ("door", "door", "never"))}, {"a": "p", "b": "p", "e": "open"}, tellers=("e",),
                   known=(("a", "e"), ("b", "e")))
@@ -141,7 +148,8 @@ class Operators(unittest.TestCase):
             found.update([lacking == (), ("equal", equal)])
         self.assertEqual(found, {True, False, ("equal", True), ("equal", False)})
         self.assertEqual(Hearing(PAIR) - Hearing(TIGHT), (("a", "b"), ("b", "a")))
-        self.assertEqual([Hearing(TIGHT).is_within(Hearing(PAIR)), Hearing(PAIR).is_within(Hearing(TIGHT))], [True, False])
+        self.assertEqual([Hearing(TIGHT).is_within(Hearing(PAIR)), Hearing(PAIR).is_within(Hearing(TIGHT))],
+            [True, False])
 
     def test_equal(self):
         self.assertEqual(Hearing(PAIR), Hearing(PAIR.with_teller("a")))
@@ -172,6 +180,10 @@ class Errors(unittest.TestCase):
                 unknown(self, value, call, value, "z")
                 unknown(self, value, call, "a", value)
                 unknown(self, value, call, value, value)
+        bare = Hearing(Net({}, {"a": "open", "b": "open"}))
+        unknown(self, "z", bare.bars, "z", "a")
+        unknown(self, "z", bare.relay, "a", "z")
+        refused(self, InvalidOperation, bare.bars, "a", "a")
         for host in PAIR:
             refused(self, InvalidOperation, hearing.relay, host, host)
             refused(self, InvalidOperation, hearing.bars, host, host)

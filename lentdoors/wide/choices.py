@@ -88,7 +88,7 @@ def is_reason(net, prices, wishes, bans, value):
 
 def are_reasons(net, prices, wishes, bans, value, before):
     """Whether the value is a tuple of reasons that exclude all these lots, each one some that earlier ones do not."""
-    if not isinstance(value, tuple) or len(value) > len(before):
+    if not isinstance(value, tuple):
         return False
     left = before
     for reason in value:

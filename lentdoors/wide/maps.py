@@ -4,7 +4,7 @@ from lentdoors.base.forms import OPEN, holds, is_pair
 from lentdoors.base.kinds import is_as_loose
 from lentdoors.base.nets import check_net, need
 from lentdoors.errors import InvalidMap, InvalidOperation
-from lentdoors.live.talks import Talk, check_talk, fits
+from lentdoors.live.talks import Talk, fits
 
 
 class Pattern:
@@ -79,8 +79,6 @@ class Pattern:
         """Whether these values of any form are the dicts of a map."""
         if not are_images(self.bound, hosts) or not are_images(self.places, boxes):
             return False
-        if not all([holds(self._to_hosts, hosts[host]) for host in hosts]):
-            return False
         if not all([boxes[box] is None or holds(self.box_choices(box), boxes[box]) for box in boxes]):
             return False
         if not self.fits_boxes(boxes) or not self.fits_known(hosts):
@@ -103,11 +101,20 @@ def filled(pattern, boxes):
     return found
 
 
+def search_order(pattern, boxes, choices):
+    """The list of the hosts in the order in which their images are chosen: those that can fail soon come first."""
+    # Hosts behind dissolved boxes are bound to one another, and few choices leave few rows to go on with.
+    ranks = [
+        (boxes.get(area, area) is not None, len(choices[host]), host) for host, area in pattern.bound.items()
+    ]
+    return [host for _, _, host in sorted(ranks)]
+
+
 def host_rows(pattern, boxes):
     """All dicts of the images of the hosts with which these images of the boxes make a map."""
-    names = list(pattern.bound)
-    choices = [pattern.host_choices(boxes, host) for host in names]
-    waiting = [()]
+    choices = {host: pattern.host_choices(boxes, host) for host in pattern.bound}
+    names = search_order(pattern, boxes, choices)
+    waiting = [()] if all([len(choices[name]) > 0 for name in names]) else []
     while waiting:
         row = waiting.pop()
         hosts = {names[at]: row[at] for at in range(len(row))}
@@ -115,7 +122,7 @@ def host_rows(pattern, boxes):
             if len(row) == len(names):
                 yield hosts
             else:
-                waiting.extend([(*row, to) for to in choices[len(row)]])
+                waiting.extend([(*row, to) for to in choices[names[len(row)]]])
 
 
 class NetMap:
@@ -180,7 +187,6 @@ class NetMap:
         return (self._hosts[sender], (word, self._hosts[what] if word == "own" else what))
 
     def __call__(self, talk):
-        check_talk(talk)
         if not fits(self._net, talk):
             raise InvalidOperation("the talk does not fit the net")
         return Talk.of(tuple([self._moved(message) for message in talk.messages()]))
