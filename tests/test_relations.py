@@ -126,6 +126,13 @@ class Bars(unittest.TestCase):
             [("left", "right"), ("left", "right")])
         self.assertIs(hears(net.with_kind("left", ("address", "any", "never")), "b", "a"), False)
 
+    def test_the_letting_counts_too(self):
+        # b turns round at p with its inner source, to which a has not sent anything, and whose address it has not used.
+        boxes = {"p": ("open", ("source", "door", "inner")), "q": ("p", ("source", "door", "never"))}
+        net = Net(boxes, {"a": "q", "b": "p", "c": "open"}, tellers=("a", "c"), known=(("a", "c"), ("b", "c")))
+        self.assertEqual(Hearing(net).bars("a", "b"), ("q",))
+        self.assertIs(hears(net.with_kind("q", ("source", "address", "never")), "a", "b"), False)
+
     def test_the_turning_stays(self):
         net = Net({"p": ("open", ("door", "door", "never"))}, {"a": "p", "b": "p", "e": "open"}, tellers=("e",),
                   known=(("a", "e"), ("b", "e")))
