@@ -84,6 +84,16 @@ def random_nets(seed, many, **more):
     return [random_net(chance, **more) for _ in range(many)]
 
 
+def helped_net(chance, boxes=3, hosts=3):
+    """A net of this chance in which a teller in the open is known to all hosts, which stand behind boxes."""
+    places = random_net(chance, boxes=boxes, hosts=1).boxes
+    net = Net(places, {"help": "open"}, tellers=("help",))
+    for name in ("a", "b", "c", "d", "e")[:hosts]:
+        net = net.with_host(name, chance.choice(list(places))).with_known(name, "help")
+        net = net.with_teller(name) if chance.random() < 0.2 else net
+    return net
+
+
 def wide_net(kind, other=None):
     """A net of four boxes and six hosts, three boxes one behind another; all boxes have this kind, or two have."""
     other = kind if other is None else other

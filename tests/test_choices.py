@@ -12,7 +12,7 @@ from lentdoors.know.tables import least_table
 from lentdoors.live.talks import Talk
 from lentdoors.wide.choices import choice_paper, excludes, is_choice_paper, price_of, ranked
 from lentdoors.wide.openings import lots, net_of
-from samples import CITY, DEEP, KINDS, MEET, NEVER, NO_NETS, ODD, OPEN, PAIR, STRICT, TIGHT, random_nets
+from samples import CITY, DEEP, KINDS, MEET, NEVER, NO_NETS, ODD, OPEN, PAIR, STRICT, TIGHT, helped_net, random_nets
 from test_openings import NO_LOTS, NO_WISHES, THREE, is_looser_lot, some_offer, some_wishes
 from test_sorts import refused
 from test_tables import full_table
@@ -158,7 +158,7 @@ class Papers(unittest.TestCase):
 
     def test_nets_of_each_form(self):
         chance, words = random.Random(2), []
-        drawn = random_nets(503, 30, boxes=3, hosts=3) + 20 * [PAIR, CITY]
+        drawn = random_nets(503, 20, boxes=3, hosts=3) + [helped_net(chance) for _ in range(60)] + 20 * [PAIR, CITY]
         for net in drawn:
             wishes, bans = some_wishes(chance, net, 2), some_wishes(chance, net, 2)
             prices = some_prices(chance, net, chance.choice((0, 2, 100)))

@@ -46,9 +46,10 @@ class Model:
 
     def run(self, line):
         words = line.split(" ") if isinstance(line, str) else []
-        many = {"new": 3, "copy": 3, "drop": 2, "kind": 6, "box": 7, "host": 4, "teller": 3, "known": 4, "twin": 4,
-            "send": 3,
-                "back": 2, "reach": 4, "show": 2, "talk": 2, "heard": 3, "hears": 4, "undo": 1, "redo": 1}
+        many = {
+            "new": 3, "copy": 3, "drop": 2, "kind": 6, "box": 7, "host": 4, "teller": 3, "known": 4, "twin": 4, "send": 3,
+            "back": 2, "reach": 4, "show": 2, "talk": 2, "heard": 3, "hears": 4, "undo": 1, "redo": 1,
+        }
         if not words or "\n" in line or "" in words or words[0] not in many:
             raise InvalidCommand("")
         if len(words) != many[words[0]] and not (words[0] in ("new", "send") and len(words) > 3):

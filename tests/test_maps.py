@@ -226,7 +226,8 @@ class Rules(unittest.TestCase):
             refused(self, InvalidMap, NetMap, TIGHT, PAIR, hosts)
             refused(self, InvalidMap, NetMap, TIGHT, PAIR, hosts, boxes=good[1])
         for boxes in ODD + ({**good[1], "z": None}, {"left": "left"}, {**good[1], "left": "open"}, {"a": "a"},
-                            {**good[1], "left": "a"}, {**good[1], "left": ["left"]}, {**good[1], "left": False}, {"left": "left", "a": "a"},
+                            {**good[1], "left": "a"}, {**good[1], "left": ["left"]}, {**good[1], "left": False},
+                            {"left": "left", "a": "a"},
                             {"left": None, "help": None}):
             self.assertIs(is_map(TIGHT, PAIR, (SAME, boxes)), False)
             if boxes is not None:

@@ -11,7 +11,7 @@ from lentdoors.know.hearing import hearing_paper, hears, is_hearing_paper
 from lentdoors.know.tables import least_table
 from lentdoors.live.talks import Talk, hearers
 from lentdoors.wide.openings import MAX_LOTS, decided, frontier, fulfils, is_frontier, lots, net_of
-from samples import CITY, DEEP, KINDS, MEET, NEVER, NO_NETS, ODD, OPEN, PAIR, STRICT, TIGHT, random_nets
+from samples import CITY, DEEP, KINDS, MEET, NEVER, NO_NETS, ODD, OPEN, PAIR, STRICT, TIGHT, helped_net, random_nets
 from test_hearing import pairs
 from test_sorts import refused
 from test_tables import full_table
@@ -195,7 +195,8 @@ class Frontiers(unittest.TestCase):
 
     def test_nets_of_each_form(self):
         chance, sizes = random.Random(4), set()
-        for net in random_nets(305, 30, boxes=3, hosts=3) + 8 * [PAIR, CITY, THREE]:
+        drawn = random_nets(305, 20, boxes=3, hosts=3) + [helped_net(chance) for _ in range(40)]
+        for net in drawn + 6 * [PAIR, CITY, THREE]:
             found = self.check(net, some_offer(chance, net), some_wishes(chance, net, 2))
             sizes.add((len(found[0]) > 0, len(found[1]) > 0))
         self.assertEqual(sizes, {(True, True), (True, False), (False, True)})

@@ -15,7 +15,7 @@ from lentdoors.wide.helps import bars_of, help_paper, is_help_paper, with_helps
 from lentdoors.wide.maps import NetMap, maps
 from lentdoors.wide.openings import decided, frontier, fulfils, is_frontier, net_of
 from lentdoors.wide.relations import Hearing, are_alike
-from samples import CITY, DEEP, LATE, PAIR, TIGHT, random_nets
+from samples import CITY, DEEP, LATE, PAIR, TIGHT, helped_net, random_nets
 from test_helps import all_helps
 from test_hearing import pairs
 
@@ -84,7 +84,8 @@ class Agreement(unittest.TestCase):
 
     def test_drawn_nets(self):
         chance = random.Random(1)
-        for net in NETS + tuple(random_nets(801, 40, hosts=3)) + tuple(random_nets(803, 15, boxes=4, hosts=4)):
+        drawn = random_nets(801, 30, hosts=3) + random_nets(803, 10, boxes=4, hosts=4)
+        for net in NETS + tuple(drawn) + tuple([helped_net(chance) for _ in range(30)]):
             self.check(net, chance)
 
     def test_a_deep_net(self):

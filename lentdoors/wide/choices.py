@@ -108,6 +108,16 @@ def are_tables_for(net, bans, value):
     return all([is_barring_table(net, host, other, value[at]) for at, (host, other) in enumerate(bans)])
 
 
+def is_none_paper(value):
+    """Whether the value has the form of a choice paper that tells of no lot."""
+    return isinstance(value, tuple) and len(value) == 2 and value[0] == "none"
+
+
+def is_lot_paper(prices, value):
+    """Whether the value has the form of a choice paper that tells of a lot."""
+    return isinstance(value, tuple) and len(value) == 5 and value[0] == "lot" and is_lot_of(prices, value[1])
+
+
 def price_of(prices, lot):
     """The price of a lot."""
     if not is_price_list(prices) or not is_lot_of(prices, lot):
@@ -157,16 +167,6 @@ def is_choice_paper(net, prices, wishes, bans, value):
         and are_tables_for(chosen, bans, tables)
         and are_reasons(net, prices, wishes, bans, reasons, lots_by_rank[:lots_by_rank.index(lot)])
     )
-
-
-def is_none_paper(value):
-    """Whether the value has the form of a choice paper that tells of no lot."""
-    return isinstance(value, tuple) and len(value) == 2 and value[0] == "none"
-
-
-def is_lot_paper(prices, value):
-    """Whether the value has the form of a choice paper that tells of a lot."""
-    return isinstance(value, tuple) and len(value) == 5 and value[0] == "lot" and is_lot_of(prices, value[1])
 
 
 def excludes(reason, lot):
